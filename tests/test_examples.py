@@ -1,0 +1,65 @@
+"""The examples of the document, line by line as they stand."""
+
+import unittest
+
+from helpers import Case
+from nearestsays.errors import BadPlace
+from nearestsays.exchange import Exchange
+from nearestsays.least import alike, closest, least, needless, parted
+from nearestsays.places import Place
+from nearestsays.plans import Plan
+from nearestsays.tables import Table
+
+
+class Examples(Case):
+    def test_places(self):
+        old = Place("docs", "old")
+        self.same([str(old), str(old.up), len(old), str(old + "x"), "/docs/old/x" in old, old.up in old, str(old & Place("docs", "new"))],
+                  ['/docs/old', '/docs', 2, '/docs/old/x', True, False, '/docs'])
+        self.same([Place("docs").is_ahead(old), old.is_ahead(Place("docsx")), Place().up, bool(Place()), str(old.head(1)), repr(Place())],
+                  [True, True, None, False, '/docs', "Place('/')"])
+        self.refused(BadPlace, {"value": '/docs/'}, Place.read, "/docs/")
+
+    def test_tables(self):
+        rights = Table(["read", "write"], {"/": {"read": "all"}, "/docs/old": {"write": "ann"}})
+        self.same([rights("/docs/old/x"), rights.told("/docs", "write"), rights.speaker("/docs/old", "read"), rights.places, "/docs" in rights],
+                  [('all', 'ann'), (None,), '/', ('/', '/docs/old'), False])
+        rights |= {"/docs": {"read": "bob", "write": "bob"}}
+        self.same([rights.told("/docs/old", "write", "read"), len(rights), rights.take("/docs"), rights("/docs/old")],
+                  [('ann', 'bob'), 3, {'read': 'bob', 'write': 'bob'}, ('all', 'ann')])
+
+    def test_least_tables(self):
+        one = Table.plain("r", {"/": "a", "/x": "b", "/x/y": "a", "/x/y/z": "a"})
+        other = Table.plain("r", {"/": "a", "/x/w": "a"})
+        self.same([needless(one), least(other).places, parted(one, other), closest(one, Table.plain("r", {"/": "b"})).places],
+                  [[('/x/y/z', 'r')], ('/',), ('/x', 'r'), ('/', '/x')])
+        self.same([alike(one, other), alike(other, least(other))], [False, True])
+
+    def test_exchanges(self):
+        E = Exchange(Table.plain("r", {"/p": "1", "/p/q/r": "3"}), Table.plain("r", {"/p/q": "2", "/p/q/r/s": "4"}))
+        self.same([str(step) for step in E.steps], ['take /p', 'put /p/q', 'take /p/q/r', 'put /p/q/r/s'])
+        self.same([E.sentences, E.kind("/p/q", "r"), E.above("/p/q/x", "r")],
+                  [((1, 0, 'r', 'old/new'), (1, 2, 'r', 'new/old'), (3, 2, 'r', 'old/new')), 'new', '/p/q'])
+        F = Exchange(Table(["r", "w"], {"/p": {"r": "1"}, "/p/q": {"r": "2"}}), Table(["r", "w"], {"/p": {"w": "3"}, "/p/q": {"w": "4"}}))
+        self.same([F.sentences, [str(step) for step in F.divide("/p").steps], F.divide("/p").sentences],
+                  [((0, 1, 'r', 'old/old'), (1, 0, 'w', 'new/new')), ['part /p r', 'part /p w', 'edit /p/q'],
+                   ((0, 2, 'r', 'old/old'), (2, 1, 'w', 'new/new'))])
+
+    def test_plans(self):
+        E = Exchange(Table.plain("r", {"/p": "1", "/p/q/r": "3"}), Table.plain("r", {"/p/q": "2", "/p/q/r/s": "4"}))
+        plan = Plan(E, [1, 0])
+        self.same([plan.is_strict, plan.table_behind().places, len(plan.left()), (plan + 3).numbers],
+                  [True, ('/p/q', '/p/q/r'), 2, (1, 0, 3)])
+        early = Plan(E, (1, 2))
+        self.same([early.is_strict, early.is_right], [False, False])
+
+    def test_the_example_of_the_sentences(self):
+        E = Exchange(Table.plain("r", {"/": "a", "/x/y": "b"}), Table.plain("r", {"/x": "c"}))
+        self.same(E.above("/x/y", "r"), "/x")
+        self.same(E.sentences, ((1, 0, "r", "old/new"), (1, 2, "r", "new/old")))
+        kept = Exchange(Table.plain("r", {"/": "a", "/x": "c", "/x/y": "b"}), Table.plain("r", {"/x": "c"}))
+        self.same(kept.sentences, ())
+
+
+if __name__ == "__main__":
+    unittest.main()
