@@ -93,17 +93,18 @@ class Exchange:
 
     def __init__(self, first, second, *, divided=()):
         check_like(first, second)
-        self.columns = first.columns
-        self.places = tuple(sorted(set(first.places + second.places)))
-        if len(self.places) > Table.MOST:
+        places = tuple(sorted(set(first.places + second.places)))
+        if len(places) > Table.MOST:
             raise TooMany(Table.MOST)
+        self.columns = first.columns
         self.divided = divided_places(first, second, divided)
+        self._places = places
         self._first = first.copy()
         self._second = second.copy()
-        self._kinds = kinds_of(first, second, self.places)
+        self._kinds = kinds_of(first, second, places)
         self.steps = tuple([
             step
-            for place in self.places
+            for place in places
             for step in steps_at(first, second, place, place in self.divided)
         ])
         self._numbers = {
@@ -113,6 +114,12 @@ class Exchange:
         }
         found = [sentence_of(self._kinds, self._numbers, place, column) for place, column in self._kinds]
         self.sentences = tuple([sentence for sentence in found if sentence is not None])
+
+    # A property, because `places` is one of a table, too.
+    @property
+    def places(self):
+        """The ascending tuple of all places with a row in one of the tables."""
+        return self._places
 
     def first_copy(self):
         """A new copy of the first table."""

@@ -52,6 +52,7 @@ def closest(table, wished):
     for place, column, answer in table.cells():
         if wished.told(place, column)[0] == answer:
             rows.setdefault(place, {})[column] = answer
-    for place, column, answer in least(wished).cells():
+    small = least(wished)
+    for place, column, answer in small.cells():
         rows.setdefault(place, {})[column] = answer
     return Table(table.columns, rows)

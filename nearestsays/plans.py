@@ -6,27 +6,72 @@ from nearestsays.places import is_integer
 from nearestsays.tables import cells_at
 
 
-def two_answers(exchange):
-    """What the two tables tell, in a dict by (place, column), ascending, for each cell of either."""
+def is_number(exchange, value):
+    """Whether any value is the number of a step of the exchange."""
+    return is_integer(value) and 0 <= value < len(exchange)
+
+
+def wrong_at(exchange, numbers):
+    """The first index whose item is not the number of a step or stands there before, or None."""
+    for at, number in enumerate(numbers):
+        if not is_number(exchange, number) or number in numbers[:at]:
+            return at
+    return None
+
+
+def cell_lines(exchange):
+    """A line (place, column, upper, number, says, pair) for each cell of either table, ascending.
+
+    upper is the index of the line of the cell above, number that of the step
+    that changes the cell, or None; says is what the cell itself says in the two
+    tables, None where it does not stand; pair is what its place is told there.
+    """
     first = exchange.first_copy()
     second = exchange.second_copy()
-    return {
-        (place, column): (first.told(place, column)[0], second.told(place, column)[0])
-        for place in exchange.places
-        for column in exchange.columns
-        if exchange.kind(place, column) is not None
-    }
+    lines = []
+    indexes = {}
+    for place in exchange.places:
+        before = cells_at(first, place)
+        after = cells_at(second, place)
+        for column in exchange.columns:
+            if column in before or column in after:
+                upper = indexes.get((exchange.above(place, column), column))
+                number = exchange.number_of(place, column)
+                says = (before.get(column), after.get(column))
+                pair = (first.told(place, column)[0], second.told(place, column)[0])
+                indexes[(place, column)] = len(lines)
+                lines.append((place, column, upper, number, says, pair))
+    return lines
 
 
-def third_told(answers, table):
-    """The first (place, column, heard) that the table tells none of its two answers, or None."""
+def third_told(lines, done):
+    """The first (place, column, heard) that is told none of its two answers when these steps are done, or None."""
     # The first place of all that is told a third answer has a cell of one of
     # the two tables in this column, so no other place is asked.
-    for (place, column), pair in answers.items():
-        heard = table.told(place, column)[0]
+    answers = []
+    for place, column, upper, number, says, pair in lines:
+        heard = says[1] if number in done else says[0]
+        if heard is None and upper is not None:
+            heard = answers[upper]
         if heard not in pair:
             return (place, column, heard)
+        answers.append(heard)
     return None
+
+
+def first_third(exchange, numbers):
+    """The least moment of a plan with a third answer, and the place, the column and the answer; None if it is right."""
+    lines = cell_lines(exchange)
+    for moment in range(len(numbers) + 1):
+        found = third_told(lines, numbers[:moment])
+        if found is not None:
+            return (moment, *found)
+    return None
+
+
+def moments_of(numbers):
+    """By the number of each step of a plan its index there."""
+    return {number: at for at, number in enumerate(numbers)}
 
 
 def is_kept(sentence, moments):
@@ -43,11 +88,17 @@ class Plan:
     def __init__(self, exchange, numbers=()):
         if not isinstance(numbers, (list, tuple)):
             raise BadPlan(None)
-        for at, number in enumerate(numbers):
-            if not is_integer(number) or not 0 <= number < len(exchange) or number in numbers[:at]:
-                raise BadPlan(at)
-        self.exchange = exchange
+        at = wrong_at(exchange, numbers)
+        if at is not None:
+            raise BadPlan(at)
+        self._exchange = exchange
         self.numbers = tuple(numbers)
+
+    # A property, because the exchange of a live table is one, too.
+    @property
+    def exchange(self):
+        """The exchange whose steps these are."""
+        return self._exchange
 
     def __len__(self):
         return len(self.numbers)
@@ -91,13 +142,12 @@ class Plan:
 
     @property
     def is_strict(self):
-        moments = {number: at for at, number in enumerate(self.numbers)}
+        moments = moments_of(self.numbers)
         return all([is_kept(sentence, moments) for sentence in self.exchange.sentences])
 
     @property
     def is_right(self):
-        answers = two_answers(self.exchange)
-        return all([third_told(answers, table) is None for table in self.tables()])
+        return first_third(self.exchange, self.numbers) is None
 
     def table_behind(self):
         """The table that stands when all steps of the plan are done."""

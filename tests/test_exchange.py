@@ -66,6 +66,22 @@ class Steps(Case):
 
     def test_places(self):
         self.same(some().places, ("/a", "/a/b", "/a/b/e", "/c", "/k"))
+        self.same(some(["/c", "/a"]).places, some().places)
+        self.same(some().back().places, some().places)
+
+    def test_places_of_tables_that_share_some(self):
+        wanted = ("/", "/a", "/a/b", "/a0", "/ab")
+        for first in ("/a /a0 /", "/ab /a/b /a /", "/a /a/b /a0 /ab /", ""):
+            for second in ("/ab /a/b /", "/ /a0 /a", "/ab /a0 /a/b /a /"):
+                shared = {*first.split(), *second.split()}
+                exchange = plain({place: "x" for place in first.split()}, {place: "y" for place in second.split()})
+                self.same(exchange.places, tuple(place for place in wanted if place in shared))
+
+    def test_places_are_read_and_not_set(self):
+        exchange = some()
+        with self.assertRaises(AttributeError):
+            exchange.places = ()
+        self.same(exchange.places, ("/a", "/a/b", "/a/b/e", "/c", "/k"))
 
 
 class Cells(Case):

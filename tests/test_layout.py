@@ -32,6 +32,13 @@ INTERFACE = {
 
 MODULES = list(INTERFACE)
 
+# The properties of the document that have no setter, those of later modules
+# too: no attribute may have one of these names.
+UNSET = "places is_whole is_strict is_right total rows exchange done log names text up".split()
+
+# What may change its own object though it is an operator.
+CHANGING = ("__setitem__", "__ior__", "__init__", "__enter__", "__exit__", "__call__")
+
 
 def parsed(module):
     return ast.parse((PACKAGE / f"{module}.py").read_text(encoding="utf-8"))
@@ -39,6 +46,54 @@ def parsed(module):
 
 def functions(tree):
     return [node for node in ast.walk(tree) if isinstance(node, ast.FunctionDef)]
+
+
+def classes():
+    return [node for module in MODULES for node in parsed(module).body if isinstance(node, ast.ClassDef)]
+
+
+def decorated(function, word):
+    """Whether a decorator of the function is this word, or ends in it behind a dot."""
+    return any(getattr(sign, "id", getattr(sign, "attr", None)) == word for sign in function.decorator_list)
+
+
+def assigned(tree):
+    """The attributes that are assigned in a tree, as nodes."""
+    return [node for node in ast.walk(tree) if isinstance(node, ast.Attribute) and not isinstance(node.ctx, ast.Load)]
+
+
+def package_functions():
+    """All functions and methods of the package by their names; a class by its own, too, for its `__init__`."""
+    found = {}
+    for module in MODULES:
+        for function in functions(parsed(module)):
+            found.setdefault(function.name, []).append(function)
+    for node in classes():
+        for function in functions(node):
+            if function.name == "__init__":
+                found.setdefault(node.name, []).append(function)
+    return found
+
+
+def names_run(function):
+    """The names of what a function may run: what it calls, and the attributes that it reads."""
+    found = [node.attr for node in ast.walk(function) if isinstance(node, ast.Attribute)]
+    return found + [node.func.id for node in ast.walk(function) if isinstance(node, ast.Call) and isinstance(node.func, ast.Name)]
+
+
+def quiet_functions():
+    """The properties, the operators that change nothing, and all that these may run."""
+    known = package_functions()
+    found = [
+        function
+        for node in classes()
+        for function in functions(node)
+        if decorated(function, "property") or (function.name.startswith("__") and function.name not in CHANGING)
+    ]
+    for function in found:
+        for name in names_run(function):
+            found.extend(other for other in known.get(name, []) if other not in found)
+    return found
 
 
 class Layout(unittest.TestCase):
@@ -69,6 +124,37 @@ class Layout(unittest.TestCase):
             self.assertLessEqual(max(len(line) for line in lines), 120)
             for node in functions(parsed(module)):
                 self.assertLessEqual(node.end_lineno - node.lineno, 39, f"{module}.{node.name}")
+
+    def test_no_property_without_a_setter_is_assigned(self):
+        held, set_ = {}, {}
+        for node in classes():
+            for function in functions(node):
+                if decorated(function, "property"):
+                    held.setdefault(function.name, []).append(node.name)
+                if decorated(function, "setter"):
+                    set_.setdefault(function.name, []).append(node.name)
+        self.assertIn("places", held)
+        unset = [*UNSET, *(name for name in held if held[name] != set_.get(name))]
+        for module in MODULES:
+            for node in assigned(parsed(module)):
+                self.assertNotIn(node.attr, unset, f"{module}, line {node.lineno}")
+
+    def test_properties_and_operators_change_nothing_and_run_no_generator(self):
+        found = quiet_functions()
+        self.assertIn("third_told", [function.name for function in found])
+        for function in found:
+            for node in ast.walk(function):
+                self.assertNotIsInstance(node, (ast.Yield, ast.YieldFrom, ast.With, ast.Global), function.name)
+            if function.name == "__init__":
+                continue
+            made = [
+                node.targets[0].id
+                for node in ast.walk(function)
+                if isinstance(node, ast.Assign) and isinstance(node.value, ast.Call)
+                and isinstance(node.targets[0], ast.Name) and getattr(node.value.func, "id", "")[:1].isupper()
+            ]
+            for node in assigned(function):
+                self.assertIn(getattr(node.value, "id", None), made, f"{function.name}, line {node.lineno}")
 
 
 if __name__ == "__main__":

@@ -235,13 +235,73 @@ class Strict(Case):
 
     def test_plans_never_change(self):
         plan = Plan(chain(), [1])
-        for name in ("is_whole", "is_strict", "is_right"):
+        for name in ("exchange", "is_whole", "is_strict", "is_right"):
             with self.assertRaises(AttributeError):
                 setattr(plan, name, True)
         plan + 0
         plan.head(0)
         plan.left()
         self.same(plan.numbers, (1,))
+
+
+class Right(Case):
+    def wrong_at(self, exchange, numbers):
+        """The moments at which a cell's place is told a third answer, found by the tables of the plan."""
+        first, second = exchange.first_copy(), exchange.second_copy()
+        tables = list(Plan(exchange, numbers).tables())
+        return [
+            moment for moment, table in enumerate(tables)
+            if any(table(place)[at] not in (first(place)[at], second(place)[at])
+                   for place in exchange.places for at in range(len(table.columns)))
+        ]
+
+    def check(self, exchange, numbers, moments):
+        self.same(self.wrong_at(exchange, numbers), moments)
+        self.same(Plan(exchange, numbers).is_right, not moments)
+
+    def test_no_steps(self):
+        for exchange in (chain(), plain(*ALIKE), plain({}, {}), some(), some(["/c"])):
+            self.check(exchange, [], [])
+
+    def test_some_steps_and_all_of_them(self):
+        for numbers in ([1], [1, 0], [1, 3], [3, 1, 2], [1, 0, 3, 2], [3, 1, 2, 0]):
+            self.check(chain(), numbers, [])
+
+    def test_a_third_answer_at_the_first_moment(self):
+        self.check(chain(), [0], [1])
+        self.check(chain(), [0, 1], [1])
+        self.check(chain(), [0, 1, 3, 2], [1])
+
+    def test_in_the_middle(self):
+        self.check(chain(), [1, 0, 2, 3], [3])
+        self.check(chain(), [3, 0, 1, 2], [2])
+        self.check(chain(), [3, 2, 0, 1], [2, 3])
+
+    def test_at_the_last_moment(self):
+        self.check(chain(), [1, 2], [2])
+        self.check(chain(), [3, 1, 0, 2], [])
+        self.check(chain(), [3, 0], [2])
+
+    def test_the_example_of_the_standings(self):
+        wrong = {order: [2] for order in permutations(range(3)) if order[-1] == 2}
+        for order in permutations(range(3)):
+            self.check(plain(*ALIKE), order, wrong.get(order, []))
+
+    def test_every_plan_of_a_small_exchange(self):
+        for exchange in (chain(), some(), some(["/c", "/a"])):
+            for size in range(4):
+                for numbers in permutations(range(len(exchange)), size):
+                    self.same(Plan(exchange, numbers).is_right, not self.wrong_at(exchange, numbers))
+
+    def test_forty_rows_in_three_columns(self):
+        columns = ["r", "w", "z"]
+        places = [f"/p{number}" for number in range(8)] + [f"/p{number}/q{deep}" for number in range(8) for deep in range(4)]
+        first = {place: {column: f"x{len(place)}" for column in columns} for place in places}
+        second = {place: {column: "y" for column in columns} for place in places}
+        exchange = Exchange(Table(columns, first), Table(columns, second), divided=places)
+        self.same([len(exchange), Plan(exchange, range_of(exchange)[::-1]).is_right], [120, True])
+        gone = Exchange(Table(columns, first), Table(columns), divided=places)
+        self.same([Plan(gone, range_of(gone)).is_right, Plan(gone, range_of(gone)[::-1]).is_right], [True, False])
 
 
 if __name__ == "__main__":
