@@ -14,6 +14,13 @@ NO_PLACES = ["", "a", "ab", "a/b", "xa/b", "//", "/a/", "/a//b", "//a", " /a", "
              Table(["r"])]
 
 
+def values(exchange):
+    """Values of all kinds, of which most functions want none."""
+    return [None, True, False, 0, 1, -1, 2000, "", "0", "strict", "broken", "/p", "a b\n\t~", (), (0,), ("strict",), ((),), ((0, 1),),
+            [], [0], [[]], {}, {0: 1}, {"/p": {"r": "x"}}, Place("p"), Place(), Table(["r"]), exchange, exchange.first_copy(),
+            exchange.steps[:1], *exchange.steps[:1], exchange.sentences[:1], list(exchange.sentences), (None,) * 6]
+
+
 def same(one, other):
     """Whether two values are equal and of one kind, down to their parts."""
     if type(one) is not type(other):

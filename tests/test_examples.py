@@ -5,10 +5,16 @@ import unittest
 from helpers import Case
 from nearestsays.errors import BadPlace
 from nearestsays.exchange import Exchange
+from nearestsays.judge import broken, judge, shows, third
 from nearestsays.least import alike, closest, least, needless, parted
+from nearestsays.orders import orders, ready
 from nearestsays.places import Place
 from nearestsays.plans import Plan
+from nearestsays.rings import is_ring, ring
 from nearestsays.tables import Table
+
+E = Exchange(Table.plain("r", {"/p": "1", "/p/q/r": "3"}), Table.plain("r", {"/p/q": "2", "/p/q/r/s": "4"}))
+F = Exchange(Table(["r", "w"], {"/p": {"r": "1"}, "/p/q": {"r": "2"}}), Table(["r", "w"], {"/p": {"w": "3"}, "/p/q": {"w": "4"}}))
 
 
 class Examples(Case):
@@ -36,27 +42,35 @@ class Examples(Case):
         self.same([alike(one, other), alike(other, least(other))], [False, True])
 
     def test_exchanges(self):
-        E = Exchange(Table.plain("r", {"/p": "1", "/p/q/r": "3"}), Table.plain("r", {"/p/q": "2", "/p/q/r/s": "4"}))
         self.same([str(step) for step in E.steps], ['take /p', 'put /p/q', 'take /p/q/r', 'put /p/q/r/s'])
         self.same([E.sentences, E.kind("/p/q", "r"), E.above("/p/q/x", "r")],
                   [((1, 0, 'r', 'old/new'), (1, 2, 'r', 'new/old'), (3, 2, 'r', 'old/new')), 'new', '/p/q'])
-        F = Exchange(Table(["r", "w"], {"/p": {"r": "1"}, "/p/q": {"r": "2"}}), Table(["r", "w"], {"/p": {"w": "3"}, "/p/q": {"w": "4"}}))
         self.same([F.sentences, [str(step) for step in F.divide("/p").steps], F.divide("/p").sentences],
                   [((0, 1, 'r', 'old/old'), (1, 0, 'w', 'new/new')), ['part /p r', 'part /p w', 'edit /p/q'],
                    ((0, 2, 'r', 'old/old'), (2, 1, 'w', 'new/new'))])
 
     def test_plans(self):
-        E = Exchange(Table.plain("r", {"/p": "1", "/p/q/r": "3"}), Table.plain("r", {"/p/q": "2", "/p/q/r/s": "4"}))
         plan = Plan(E, [1, 0])
-        self.same([plan.is_strict, plan.table_behind().places, len(plan.left()), (plan + 3).numbers],
-                  [True, ('/p/q', '/p/q/r'), 2, (1, 0, 3)])
+        self.same([plan.is_strict, plan.table_behind().places, len(plan.left()), (plan + 3).numbers, judge(plan).paper()],
+                  [True, ('/p/q', '/p/q/r'), 2, (1, 0, 3), ('strict', (1, 0), ((0, 1), (0, None), (None, None)))])
         early = Plan(E, (1, 2))
         self.same([early.is_strict, early.is_right], [False, False])
+        self.same([broken(early), third(early)], [(2, '/p/q/r/s', 'r', (3, 2, 'r', 'old/new')), (2, '/p/q/r/s', 'r', '2')])
+        self.same([judge(early).paper(), shows(E, judge(early).paper())],
+                  [('broken', (1, 2), 2, '/p/q/r/s', 'r', ('/p/q', 'second')), True])
+
+    def test_orders(self):
+        self.same([order.numbers for order in orders(E)],
+                  [(1, 0, 3, 2), (1, 3, 0, 2), (1, 3, 2, 0), (3, 1, 0, 2), (3, 1, 2, 0)])
+        self.same(ready(Plan(E, [1])), (0, 3))
+
+    def test_rings(self):
+        self.same([ring(E), is_ring(F, F.sentences), ring(F.divide("/p/q"))], [None, True, None])
 
     def test_the_example_of_the_sentences(self):
-        E = Exchange(Table.plain("r", {"/": "a", "/x/y": "b"}), Table.plain("r", {"/x": "c"}))
-        self.same(E.above("/x/y", "r"), "/x")
-        self.same(E.sentences, ((1, 0, "r", "old/new"), (1, 2, "r", "new/old")))
+        put = Exchange(Table.plain("r", {"/": "a", "/x/y": "b"}), Table.plain("r", {"/x": "c"}))
+        self.same(put.above("/x/y", "r"), "/x")
+        self.same(put.sentences, ((1, 0, "r", "old/new"), (1, 2, "r", "new/old")))
         kept = Exchange(Table.plain("r", {"/": "a", "/x": "c", "/x/y": "b"}), Table.plain("r", {"/x": "c"}))
         self.same(kept.sentences, ())
 

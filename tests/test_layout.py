@@ -22,12 +22,18 @@ INTERFACE = {
     "least": {"needless": None, "least": None, "parted": None, "alike": None, "closest": None},
     "steps": {"Step": "on __invert__ __eq__ __str__", "Put": "", "Take": "", "Edit": "", "Part": ""},
     "exchange": {
-        "Exchange": "__init__ first_copy second_copy __len__ kind above number_of back divide __eq__",
+        "Exchange": "__init__ first_copy second_copy __len__ kind above number_of back divide __eq__ places",
         "unlike": None,
     },
     "plans": {
-        "Plan": "__init__ __len__ __str__ head __add__ begins __eq__ back is_whole is_strict is_right table_behind tables left",
+        "Plan": "__init__ __len__ __str__ head __add__ begins __eq__ back is_whole is_strict is_right table_behind tables left exchange",
     },
+    "judge": {
+        "broken": None, "third": None, "judge": None, "shows": None,
+        "Verdict": "__init__ __eq__ paper", "Strict": "__init__ __bool__ __eq__ paper", "Broken": "__init__ __bool__ __eq__ paper",
+    },
+    "rings": {"ring": None, "is_ring": None},
+    "orders": {"ready": None, "orders": None, "least_order": None},
 }
 
 MODULES = list(INTERFACE)
