@@ -11,6 +11,14 @@ def steps_ahead(exchange):
     return found
 
 
+def steps_behind(exchange):
+    """For each step, by its number, the list of the steps that a sentence puts behind it."""
+    found = [[] for _ in exchange.steps]
+    for sentence in exchange.sentences:
+        found[sentence[0]].append(sentence[1])
+    return found
+
+
 def stuck_steps(exchange):
     """The numbers of the steps that no order reaches: those in a ring, or behind one."""
     aheads = steps_ahead(exchange)

@@ -3,6 +3,8 @@
 import unittest
 
 from helpers import Case
+from nearestsays.counting import count, nth, rank
+from nearestsays.dividing import candidates, fewest_divided
 from nearestsays.errors import BadPlace
 from nearestsays.exchange import Exchange
 from nearestsays.judge import broken, judge, shows, third
@@ -11,10 +13,13 @@ from nearestsays.orders import orders, ready
 from nearestsays.places import Place
 from nearestsays.plans import Plan
 from nearestsays.rings import is_ring, ring
+from nearestsays.rounds import chain, rounds, shows_rounds
+from nearestsays.standings import is_right, may_come, right_standings, strict_standings, third_at
 from nearestsays.tables import Table
 
 E = Exchange(Table.plain("r", {"/p": "1", "/p/q/r": "3"}), Table.plain("r", {"/p/q": "2", "/p/q/r/s": "4"}))
 F = Exchange(Table(["r", "w"], {"/p": {"r": "1"}, "/p/q": {"r": "2"}}), Table(["r", "w"], {"/p": {"w": "3"}, "/p/q": {"w": "4"}}))
+G = Exchange(Table.plain("r", {"/": "x", "/s": "x"}), Table.plain("r", {"/": "q", "/s/r": "y"}))
 
 
 class Examples(Case):
@@ -62,10 +67,19 @@ class Examples(Case):
     def test_orders(self):
         self.same([order.numbers for order in orders(E)],
                   [(1, 0, 3, 2), (1, 3, 0, 2), (1, 3, 2, 0), (3, 1, 0, 2), (3, 1, 2, 0)])
-        self.same(ready(Plan(E, [1])), (0, 3))
+        self.same([count(E), nth(E, 3).numbers, rank(Plan(E, (1, 3, 2, 0))), ready(Plan(E, [1])), rounds(E), chain(E)],
+                  [5, (3, 1, 0, 2), 2, (0, 3), [(1, 3), (0, 2)], (1, 0)])
+        self.same([count(F), shows_rounds(E, ((3, 1), (2, 0)), (3, 2))], [0, True])
 
     def test_rings(self):
-        self.same([ring(E), is_ring(F, F.sentences), ring(F.divide("/p/q"))], [None, True, None])
+        self.same([ring(E), is_ring(F, F.sentences), candidates(F), ring(F.divide("/p/q"))], [None, True, ('/p', '/p/q'), None])
+        places, reasons = fewest_divided(F)
+        self.same([places, len(reasons), reasons[0][0], count(F.divide(*places))], [('/p',), 1, (), 1])
+
+    def test_standings(self):
+        self.same([G.sentences, may_come(G, (1,)), third_at(G, (0, 1)), right_standings(G), strict_standings(G)],
+                  [((0, 1, 'r', 'turned/old'), (2, 1, 'r', 'old/new')), (2,), ('/s/r', 'r', 'q'), 7, 5])
+        self.same([is_right(G, (0,)), is_right(G, (1,)), is_right(G, (0, 1)), is_right(G, (0, 1, 2))], [True, True, False, True])
 
     def test_the_example_of_the_sentences(self):
         put = Exchange(Table.plain("r", {"/": "a", "/x/y": "b"}), Table.plain("r", {"/x": "c"}))

@@ -34,6 +34,13 @@ INTERFACE = {
     },
     "rings": {"ring": None, "is_ring": None},
     "orders": {"ready": None, "orders": None, "least_order": None},
+    "counting": {"count": None, "nth": None, "rank": None},
+    "rounds": {"rounds": None, "chain": None, "shows_rounds": None},
+    "dividing": {"candidates": None, "fewest_divided": None, "shows_divided": None},
+    "standings": {
+        "table_at": None, "third_at": None, "is_right": None, "is_strict": None, "may_come": None,
+        "right_standings": None, "strict_standings": None,
+    },
 }
 
 MODULES = list(INTERFACE)
@@ -41,6 +48,9 @@ MODULES = list(INTERFACE)
 # The properties of the document that have no setter, those of later modules
 # too: no attribute may have one of these names.
 UNSET = "places is_whole is_strict is_right total rows exchange done log names text up".split()
+
+# What is imported from outside of the package.
+LIBRARY = [("math", ["comb"])]
 
 # What may change its own object though it is an operator.
 CHANGING = ("__setitem__", "__ior__", "__init__", "__enter__", "__exit__", "__call__")
@@ -120,7 +130,7 @@ class Layout(unittest.TestCase):
         for at, module in enumerate(MODULES):
             for node in parsed(module).body:
                 self.assertNotIsInstance(node, ast.Import)
-                if isinstance(node, ast.ImportFrom):
+                if isinstance(node, ast.ImportFrom) and (node.module, [name.name for name in node.names]) not in LIBRARY:
                     self.assertIn(node.module, [f"nearestsays.{name}" for name in MODULES[:at]])
 
     def test_sizes(self):
