@@ -60,22 +60,18 @@ def fewest_divided(exchange):
     return (places, reasons)
 
 
+# Below, == and `in` ask for the kinds, too: a tuple equals no list, a text no Place.
 def is_reason(exchange, value, places):
     """Whether any value is the pair of these places and a ring of the exchange in which they are divided, too."""
-    if not isinstance(value, tuple) or len(value) != 2 or not is_row(value[0], places):
+    if not isinstance(value, tuple) or len(value) != 2 or value[0] != places:
         return False
     return is_ring(exchange.divide(*places), value[1])
-
-
-def is_row(value, places):
-    """Whether any value is the tuple of these texts."""
-    return isinstance(value, tuple) and all([isinstance(text, str) for text in value]) and value == places
 
 
 def shows_divided(exchange, places, reasons):
     """Whether any values are the fewest places, and the rings that show that there are no fewer ones."""
     rows = choices(exchange)
-    if not is_row(places, places) or places not in rows or not isinstance(reasons, list):
+    if places not in rows or not isinstance(reasons, list):
         return False
     ahead = rows[:rows.index(places)]
     if len(reasons) != len(ahead) or ring_behind(exchange, places) is not None:

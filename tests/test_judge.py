@@ -215,6 +215,17 @@ class Verdicts(Case):
             self.assertIs(verdict == other, False)
         self.assertIs(Strict(plan, ()) == Strict(plan, ((0, 1),)), False)
 
+    def test_the_base_class(self):
+        plan = Plan(chain(), [1, 2])
+        verdict = Verdict(plan)
+        self.assertEqual(verdict.plan, plan)
+        self.assertIs(type(verdict.word), str)
+        self.same(verdict.paper(), (verdict.word, (1, 2)))
+        self.same([verdict == Verdict(Plan(chain(), (1, 2))), verdict == Verdict(plan.head(1)), verdict == Verdict(Plan(chain().divide("/p"), (1, 2)))],
+                  [True, False, False])
+        for other in [judge(plan), judge(plan.head(1)), Strict(plan, ()), *values(chain())]:
+            self.same([verdict == other, other == verdict], [False, False])
+
     def test_judge_agrees_with_broken(self):
         random = Random(47)
         for exchange in some_exchanges(47, 120):
