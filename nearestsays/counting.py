@@ -4,10 +4,10 @@ from math import comb
 
 from nearestsays.errors import BadPlan, NoOrder, TooMany
 from nearestsays.judge import broken
-from nearestsays.orders import free_steps, ready
+from nearestsays.orders import ahead_bits, bits_of, free_steps, ready
 from nearestsays.places import is_integer
 from nearestsays.plans import Plan
-from nearestsays.rings import ring, steps_ahead
+from nearestsays.rings import ring
 
 MOST_STEPS = 24
 MOST_STANDINGS = 2000
@@ -25,30 +25,28 @@ def has_circle(exchange):
     return False
 
 
-def strict_rows(exchange, most):
-    """All strict standings of an exchange without a ring, by length, then ascending; None if there are more."""
-    aheads = steps_ahead(exchange)
-    rows = [()]
-    level = [()]
+def strict_bits(aheads, most):
+    """All strict standings as bits, those with fewer steps first; None if there are more."""
+    found = [0]
+    level = [0]
     while level:
-        found = {}
-        for standing in level:
-            for number in free_steps(aheads, standing):
-                found[tuple(sorted([*standing, number]))] = True
-            if len(rows) + len(found) > most:
+        following = {}
+        for done in level:
+            for number in free_steps(aheads, done):
+                following[done | 1 << number] = True
+            if len(found) + len(following) > most:
                 return None
-        level = sorted(found)
-        rows.extend(level)
-    return rows
+        level = list(following)
+        found.extend(level)
+    return found
 
 
-def ways_on(exchange, rows):
-    """By each strict standing in how many ways strict steps lead on from it to the whole one."""
-    aheads = steps_ahead(exchange)
+def ways_on(aheads, standings):
+    """By each strict standing, as bits, in how many ways strict steps lead on from it to the whole one."""
     ways = {}
-    for standing in rows[::-1]:
-        more = [tuple(sorted([*standing, number])) for number in free_steps(aheads, standing)]
-        ways[standing] = sum([ways[row] for row in more]) if more else 1
+    for done in standings[::-1]:
+        more = [ways[done | 1 << number] for number in free_steps(aheads, done)]
+        ways[done] = sum(more) if more else 1
     return ways
 
 
@@ -58,10 +56,11 @@ def known_ways(exchange):
         raise TooMany(MOST_STEPS)
     if ring(exchange) is not None or not has_circle(exchange):
         return {}
-    rows = strict_rows(exchange, MOST_STANDINGS)
-    if rows is None:
+    aheads = ahead_bits(exchange)
+    standings = strict_bits(aheads, MOST_STANDINGS)
+    if standings is None:
         raise TooMany(MOST_STANDINGS)
-    return ways_on(exchange, rows)
+    return ways_on(aheads, standings)
 
 
 def woven(row, other, is_ahead):
@@ -128,7 +127,7 @@ def tree_orders(exchange, done):
 def orders_behind(exchange, ways, done):
     """How many orders do the steps of this strict standing first; ways as known of the exchange."""
     if ways:
-        return ways[tuple(sorted(done))]
+        return ways[bits_of(done)]
     return tree_orders(exchange, done)
 
 

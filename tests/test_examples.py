@@ -3,16 +3,19 @@
 import unittest
 
 from helpers import Case
+from nearestsays.book import Book, is_book
 from nearestsays.counting import count, nth, rank
 from nearestsays.dividing import candidates, fewest_divided
 from nearestsays.errors import BadPlace
 from nearestsays.exchange import Exchange
+from nearestsays.hands import joining, mixed, together
 from nearestsays.judge import broken, judge, shows, third
 from nearestsays.least import alike, closest, least, needless, parted
 from nearestsays.orders import orders, ready
 from nearestsays.places import Place
 from nearestsays.plans import Plan
 from nearestsays.rings import is_ring, ring
+from nearestsays.room import barred, least_room, within
 from nearestsays.rounds import chain, rounds, shows_rounds
 from nearestsays.standings import is_right, may_come, right_standings, strict_standings, third_at
 from nearestsays.tables import Table
@@ -80,6 +83,24 @@ class Examples(Case):
         self.same([G.sentences, may_come(G, (1,)), third_at(G, (0, 1)), right_standings(G), strict_standings(G)],
                   [((0, 1, 'r', 'turned/old'), (2, 1, 'r', 'old/new')), (2,), ('/s/r', 'r', 'q'), 7, 5])
         self.same([is_right(G, (0,)), is_right(G, (1,)), is_right(G, (0, 1)), is_right(G, (0, 1, 2))], [True, True, False, True])
+
+    def test_book(self):
+        book = Book(G)
+        self.same([book.total, len(book), book.rows[0], [walk for walk in book.walks()]],
+                  [4, 7, ((), (0, 1, 2), 4), [(0, 2, 1), (1, 2, 0), (2, 0, 1), (2, 1, 0)]])
+        self.same([Book(F).rows, Book(F).is_stuck(())], [(((), (), 0),), True])
+        self.same([is_book(G, book.rows), is_book(F, book.rows)], [True, False])
+
+    def test_room(self):
+        self.same([least_room(E), within(E, 2), barred(E, 2)], [(3, (1, 0, 3, 2)), None, ((),)])
+
+    def test_hands(self):
+        base = Table.plain("r", {"/": "a"})
+        one = Exchange(base, Table.plain("r", {"/x/y": "d"}))
+        other = Exchange(base, Table.plain("r", {"/": "a", "/x": "c"}))
+        self.same([one.sentences, other.sentences, [str(step) for step in together(one, other).steps], joining(one, other)],
+                  [((1, 0, 'r', 'old/new'),), (), ['take /', 'put /x', 'put /x/y'], [(1, 0, 'r', 'old/new'), (2, 1, 'r', 'new/new')]])
+        self.same(mixed(Plan(one, [1, 0]), Plan(other, [0]), [0, 1, 0]).numbers, (2, 1, 0))
 
     def test_the_example_of_the_sentences(self):
         put = Exchange(Table.plain("r", {"/": "a", "/x/y": "b"}), Table.plain("r", {"/x": "c"}))

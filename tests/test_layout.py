@@ -41,6 +41,9 @@ INTERFACE = {
         "table_at": None, "third_at": None, "is_right": None, "is_strict": None, "may_come": None,
         "right_standings": None, "strict_standings": None,
     },
+    "book": {"Book": "__init__ exchange rows total __len__ __contains__ is_stuck walks __eq__", "is_book": None},
+    "room": {"room": None, "least_room": None, "within": None, "barred": None, "shows_barred": None},
+    "hands": {"together": None, "joining": None, "are_apart": None, "mixed": None},
 }
 
 MODULES = list(INTERFACE)
