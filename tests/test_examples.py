@@ -5,12 +5,15 @@ import unittest
 from helpers import Case
 from nearestsays.book import Book, is_book
 from nearestsays.counting import count, nth, rank
+from nearestsays.desk import Desk
 from nearestsays.dividing import candidates, fewest_divided
-from nearestsays.errors import BadPlace
+from nearestsays.errors import BadLine, BadPlace, BadText, ThirdAnswer, TooEarly
 from nearestsays.exchange import Exchange
 from nearestsays.hands import joining, mixed, together
+from nearestsays.heard import Hearings, contradiction, shows_contradiction
 from nearestsays.judge import broken, judge, shows, third
 from nearestsays.least import alike, closest, least, needless, parted
+from nearestsays.live import Live
 from nearestsays.orders import orders, ready
 from nearestsays.places import Place
 from nearestsays.plans import Plan
@@ -19,6 +22,7 @@ from nearestsays.room import barred, least_room, within
 from nearestsays.rounds import chain, rounds, shows_rounds
 from nearestsays.standings import is_right, may_come, right_standings, strict_standings, third_at
 from nearestsays.tables import Table
+from nearestsays.texts import read_table, show_plan, show_table
 
 E = Exchange(Table.plain("r", {"/p": "1", "/p/q/r": "3"}), Table.plain("r", {"/p/q": "2", "/p/q/r/s": "4"}))
 F = Exchange(Table(["r", "w"], {"/p": {"r": "1"}, "/p/q": {"r": "2"}}), Table(["r", "w"], {"/p": {"w": "3"}, "/p/q": {"w": "4"}}))
@@ -101,6 +105,35 @@ class Examples(Case):
         self.same([one.sentences, other.sentences, [str(step) for step in together(one, other).steps], joining(one, other)],
                   [((1, 0, 'r', 'old/new'),), (), ['take /', 'put /x', 'put /x/y'], [(1, 0, 'r', 'old/new'), (2, 1, 'r', 'new/new')]])
         self.same(mixed(Plan(one, [1, 0]), Plan(other, [0]), [0, 1, 0]).numbers, (2, 1, 0))
+
+    def test_what_was_heard(self):
+        heard = Hearings(E)
+        heard.hear(("/p/q/r", "r", "2"), ("/p", "r", "1"))
+        self.same([heard.surely_done(0), heard.surely_left(0)], [(1, 2, 3), (0,)])
+        rows = [[("/p", "r", None)], [("/p/q", "r", "1")]]
+        self.same([contradiction(E, rows), contradiction(E, [[("/p", "r", "7")]])], [(0, 0, 1, 0, (1, 0)), (0, 0)])
+        self.same([shows_contradiction(E, rows, (0, 0, 1, 0, (1, 0))), shows_contradiction(E, rows, (0, 0))], [True, False])
+
+    def test_a_live_table(self):
+        live = Live(G.first_copy())
+        self.same(live.begin(G.second_copy()) == G, True)
+        self.same([live.step(1), live("/s/r"), live.done], [2, ('x',), (1,)])
+        with self.assertRaises(ThirdAnswer) as caught:
+            live.step(0)
+        self.same(vars(caught.exception), {"place": '/s/r', "column": 'r', "heard": 'q'})
+        self.same([type(caught.exception.__cause__) is TooEarly, vars(caught.exception.__cause__)], [True, {"number": 1, "ahead": 2}])
+        self.same([live.finish(), live.exchange, live("/s"), live.log], [(2, 0), None, ('q',), ('begin', 'step 1', 'step 2', 'step 0', 'end')])
+
+    def test_texts_and_the_desk(self):
+        self.same(show_plan(Plan(G, [2])), 'columns r\nfirst / r x\nfirst /s r x\nsecond / r q\nsecond /s/r r y\norder 2')
+        self.same(show_table(G.first_copy()), 'columns r\nrow / r x\nrow /s r x')
+        desk = Desk()
+        self.same(desk.run("show", "table columns r ; row / r x ; row /s r x", "begin columns r ; row / r q ; row /s/r r y", "do 1", "do 0", "ready"),
+                  ['no table', 'ok', '3', '2', 'refused ThirdAnswer', '2'])
+        self.same(desk.run("finish", "tell /s r", "show", "rounds"), ['2 0', 'q', 'columns r ; row / r q ; row /s/r r y', 'refused NoExchange'])
+        self.same(desk.run("begin columns r ; row / r q", "judge 0 0", "judge 0", "judge"), ['1', 'refused BadPlan', 'strict', 'strict'])
+        self.refused(BadLine, {"word": 2}, desk.say, "tell /s  r")
+        self.refused(BadText, {"line": 2, "word": 1}, read_table, "columns r\nrow /b r x\nrow /a r x")
 
     def test_the_example_of_the_sentences(self):
         put = Exchange(Table.plain("r", {"/": "a", "/x/y": "b"}), Table.plain("r", {"/x": "c"}))

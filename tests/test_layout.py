@@ -44,6 +44,12 @@ INTERFACE = {
     "book": {"Book": "__init__ exchange rows total __len__ __contains__ is_stuck walks __eq__", "is_book": None},
     "room": {"room": None, "least_room": None, "within": None, "barred": None, "shows_barred": None},
     "hands": {"together": None, "joining": None, "are_apart": None, "mixed": None},
+    "heard": {"Hearings": "__init__ hear rows __len__ surely_done surely_left", "contradiction": None, "shows_contradiction": None},
+    "live": {
+        "Live": "__init__ __call__ told table_copy rule set_rule exchange done begin step back finish turn_to exchanged trial tried log",
+    },
+    "texts": {"show_table": None, "show_plan": None, "read_table": None, "read_plan": None},
+    "desk": {"Desk": "__init__ say run table_copy"},
 }
 
 MODULES = list(INTERFACE)
