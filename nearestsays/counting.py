@@ -3,64 +3,131 @@
 from math import comb
 
 from nearestsays.errors import BadPlan, NoOrder, TooMany
-from nearestsays.judge import broken
-from nearestsays.orders import ahead_bits, bits_of, free_steps, ready
+from nearestsays.orders import ahead_bits, free_steps
 from nearestsays.places import is_integer
 from nearestsays.plans import Plan
-from nearestsays.rings import ring
+
+# Sets of steps are written as bits here: the bit of a step is 1 << number, and
+# the bit of the first step of a set is bits & -bits.
 
 MOST_STEPS = 24
 MOST_STANDINGS = 2000
 
 
-def has_circle(exchange):
-    """Whether the sentences, each one a connection between two steps, connect some steps in a circle."""
-    pairs = sorted({(min(s[0], s[1]), max(s[0], s[1])) for s in exchange.sentences})
-    groups = list(range(len(exchange)))
-    for one, other in pairs:
-        kept, gone = groups[one], groups[other]
-        if kept == gone:
-            return True
-        groups = [kept if group == gone else group for group in groups]
-    return False
-
-
-def strict_bits(aheads, most):
-    """All strict standings as bits, those with fewer steps first; None if there are more."""
-    found = [0]
-    level = [0]
-    while level:
-        following = {}
-        for done in level:
-            for number in free_steps(aheads, done):
-                following[done | 1 << number] = True
-            if len(found) + len(following) > most:
-                return None
-        level = list(following)
-        found.extend(level)
+def numbers_of(bits):
+    """The ascending list of the numbers of these steps."""
+    found = []
+    while bits:
+        low = bits & -bits
+        found.append(low.bit_length() - 1)
+        bits ^= low
     return found
 
 
-def ways_on(aheads, standings):
-    """By each strict standing, as bits, in how many ways strict steps lead on from it to the whole one."""
-    ways = {}
-    for done in standings[::-1]:
-        more = [ways[done | 1 << number] for number in free_steps(aheads, done)]
-        ways[done] = sum(more) if more else 1
-    return ways
+def first_bits(aheads, steps, rest):
+    """The bits of those of the steps that none of the rest must come ahead of."""
+    return sum([1 << number for number in numbers_of(steps) if not aheads[number] & rest])
 
 
-def known_ways(exchange):
-    """The ways on from each strict standing if the sentences connect a circle and form no ring, otherwise {}."""
-    if len(exchange) > MOST_STEPS:
-        raise TooMany(MOST_STEPS)
-    if ring(exchange) is not None or not has_circle(exchange):
-        return {}
-    aheads = ahead_bits(exchange)
-    standings = strict_bits(aheads, MOST_STANDINGS)
-    if standings is None:
-        raise TooMany(MOST_STANDINGS)
-    return ways_on(aheads, standings)
+def some_order(aheads):
+    """The numbers of the steps, each one behind those that must come ahead of it; with a ring not all of them."""
+    done = 0
+    row = []
+    left = list(range(len(aheads)))
+    while left:
+        waiting = []
+        for number in left:
+            if aheads[number] & done == aheads[number]:
+                done |= 1 << number
+                row.append(number)
+            else:
+                waiting.append(number)
+        if len(waiting) == len(left):
+            return row
+        left = waiting
+    return row
+
+
+class Links:
+    """For each step, as bits, the steps that must come ahead of it, those behind it, and both together."""
+
+    def __init__(self, aheads, behinds):
+        self.aheads = aheads
+        self.behinds = behinds
+        self.near = [ahead | behind for ahead, behind in zip(aheads, behinds)]
+
+
+def links_of(aheads):
+    """The links of the steps, by the bits of those ahead of each one."""
+    behinds = [0] * len(aheads)
+    for number, ahead in enumerate(aheads):
+        for other in numbers_of(ahead):
+            behinds[other] |= 1 << number
+    return Links(aheads, behinds)
+
+
+def part_of(near, rest):
+    """The steps of the rest that are connected to its first one within it, and how many these are."""
+    part = front = rest & -rest
+    many = 0
+    while front:
+        low = front & -front
+        fresh = near[low.bit_length() - 1] & rest & ~part
+        part |= fresh
+        front ^= low | fresh
+        many += 1
+    return (part, many)
+
+
+def parts_of(near, rest):
+    """The list of the connected parts of the rest, each one with how many steps it has."""
+    found = []
+    while rest:
+        pair = part_of(near, rest)
+        found.append(pair)
+        rest ^= pair[0]
+    return found
+
+
+def has_circle(exchange, parts):
+    """Whether the sentences of an exchange without a ring connect steps of these parts in a circle."""
+    pairs = {(sentence[0], sentence[1]) for sentence in exchange.sentences}
+    return len(pairs) > len(exchange) - len(parts)
+
+
+def closed(nexts, order):
+    """For each step the bits of itself and of all to which the next ones lead; the order has these first."""
+    found = [0] * len(nexts)
+    for number in order:
+        bits = 1 << number
+        for other in numbers_of(nexts[number]):
+            bits |= found[other]
+        found[number] = bits
+    return found
+
+
+class Standings:
+    """Counts strict standings without going through them."""
+
+    def __init__(self, links, order):
+        self.near = links.near
+        self.with_ahead = closed(links.aheads, order)
+        self.with_behind = closed(links.behinds, order[::-1])
+        # Without a step that is near to many others the rest falls apart soonest.
+        pairs = sorted([(-len(numbers_of(self.near[number])), number) for number in order])
+        self.pivots = [number for _, number in pairs]
+
+    def within(self, rest):
+        """How many strict standings these steps alone have."""
+        total = 1
+        for part, many in parts_of(self.near, rest):
+            if many == 1:
+                total = total * 2
+            else:
+                pivot = [number for number in self.pivots if part >> number & 1][0]
+                without = self.within(part & ~self.with_behind[pivot])
+                total = total * (without + self.within(part & ~self.with_ahead[pivot]))
+        return total
 
 
 def woven(row, other, is_ahead):
@@ -81,97 +148,188 @@ def woven(row, other, is_ahead):
     return ways
 
 
-def tree_row(links, number, source):
-    """How many orders of the tree of a step, seen from the step source on, have the step at each index."""
+def tree_row(links, rest, number):
+    """How many orders of the tree of a step within the rest, the step itself left out of it, have it at each index."""
     row = [1]
-    for other in links[number]:
-        if other != source:
-            row = woven(row, tree_row(links, other, number), links[number][other])
+    for other in numbers_of(links.near[number] & rest):
+        is_ahead = links.aheads[number] >> other & 1 == 1
+        row = woven(row, tree_row(links, rest & ~(1 << other), other), is_ahead)
     return row
 
 
-def links_between(exchange, done):
-    """By each step that is not done those that sentences connect to it: whether they must come ahead of it."""
-    links = {number: {} for number in range(len(exchange)) if number not in done}
-    for sentence in exchange.sentences:
-        ahead, behind = sentence[:2]
-        if ahead in links and behind in links:
-            links[behind][ahead] = True
-            links[ahead][behind] = False
-    return links
+class Piece:
+    """A connected piece of the steps, of which the rest is left; tells how many orders steps of it have.
+
+    Here the sentences connect no circle.
+    """
+
+    def __init__(self, links, rest, many):
+        self.links = links
+        self.rest = rest
+        self.many = many
+        self.known = {}
+        self.ways = self.orders_of(rest, many)
+
+    def orders_of(self, rest, many):
+        """How many orders so many steps of the piece have."""
+        if rest not in self.known:
+            total = 1
+            so_far = 0
+            for part, size in parts_of(self.links.near, rest):
+                first = part & -part
+                row = tree_row(self.links, part ^ first, first.bit_length() - 1)
+                so_far += size
+                total = total * comb(so_far, size) * sum(row)
+            self.known[rest] = total
+        return self.known[rest]
+
+    def orders_without(self, number):
+        """How many orders the rest has without this step."""
+        return self.orders_of(self.rest ^ 1 << number, self.many - 1)
+
+    def leave(self, number):
+        """Takes this step away from the rest."""
+        self.ways = self.orders_without(number)
+        self.rest ^= 1 << number
+        self.many -= 1
 
 
-def steps_of_tree(links, number, source):
-    """The list of the steps of the tree of a step, seen from the step source on."""
-    row = [number]
-    for other in links[number]:
-        if other != source:
-            row = row + steps_of_tree(links, other, number)
-    return row
+class Tangle(Piece):
+    """A piece in which the sentences may connect circles; it goes through some of the strict standings alone."""
+
+    def orders_of(self, rest, many):
+        """How many orders so many steps of the piece have."""
+        aheads, behinds = self.links.aheads, self.links.behinds
+        return self.counted(rest, many, first_bits(aheads, rest, rest), first_bits(behinds, rest, rest), False)
+
+    def counted(self, rest, many, firsts, lasts, is_one):
+        """The same, by the bits of those that may come first and last; is_one tells that all are surely connected."""
+        if many < 2:
+            return 1
+        if rest not in self.known:
+            part, size = (rest, many) if is_one else part_of(self.links.near, rest)
+            if part == rest:
+                self.known[rest] = self.by_ends(rest, many, firsts, lasts)
+            else:
+                ways = self.counted(part, size, firsts & part, lasts & part, True)
+                others = self.counted(rest ^ part, many - size, firsts & ~part, lasts & ~part, False)
+                self.known[rest] = comb(many, size) * ways * others
+        return self.known[rest]
+
+    def by_ends(self, rest, many, firsts, lasts):
+        """The same of connected steps: one of them comes first, or last, where much fewer can; then the others."""
+        aheads, behinds = self.links.aheads, self.links.behinds
+        starts, ends = numbers_of(firsts), numbers_of(lasts)
+        total = 0
+        # A step that is connected to one other alone keeps nothing together.
+        if 2 * len(ends) <= len(starts):
+            for number in ends:
+                left = rest ^ 1 << number
+                near = aheads[number] & left
+                following = lasts ^ 1 << number | first_bits(behinds, near, left)
+                total += self.counted(left, many - 1, firsts, following, not near & (near - 1))
+        else:
+            for number in starts:
+                left = rest ^ 1 << number
+                near = behinds[number] & left
+                following = firsts ^ 1 << number | first_bits(aheads, near, left)
+                total += self.counted(left, many - 1, following, lasts, not near & (near - 1))
+        return total
 
 
-def tree_orders(exchange, done):
-    """How many orders the steps that are not done have, if the sentences between them connect no circle."""
-    links = links_between(exchange, done)
-    counted = {}
-    total = 1
-    for number in links:
-        if number not in counted:
-            for step in steps_of_tree(links, number, None):
-                counted[step] = True
-            row = tree_row(links, number, None)
-            total = total * sum(row) * comb(len(counted), len(row))
-    return total
+def pieces_of(exchange, aheads, order):
+    """The list of the pieces of an exchange without a ring."""
+    links = links_of(aheads)
+    whole = (1 << len(order)) - 1
+    parts = parts_of(links.near, whole)
+    if not has_circle(exchange, parts):
+        return [Piece(links, part, many) for part, many in parts]
+    if Standings(links, order).within(whole) > MOST_STANDINGS:
+        raise TooMany(MOST_STANDINGS)
+    return [Tangle(links, part, many) for part, many in parts]
 
 
-def orders_behind(exchange, ways, done):
-    """How many orders do the steps of this strict standing first; ways as known of the exchange."""
-    if ways:
-        return ways[bits_of(done)]
-    return tree_orders(exchange, done)
+class Tally:
+    """In how many ways the steps that are left can be done, while one after another is done."""
 
+    def __init__(self, exchange):
+        if len(exchange) > MOST_STEPS:
+            raise TooMany(MOST_STEPS)
+        self.aheads = ahead_bits(exchange)
+        self.done_bits = 0
+        self.many = 0
+        self.ways = 1
+        self.pieces = {}
+        order = some_order(self.aheads)
+        if len(order) < len(exchange):
+            # There is a ring.
+            self.ways = 0
+        else:
+            for piece in pieces_of(exchange, self.aheads, order):
+                self.many += piece.many
+                self.ways = self.ways * comb(self.many, piece.many) * piece.ways
+                for number in numbers_of(piece.rest):
+                    self.pieces[number] = piece
 
-def all_orders(exchange, ways):
-    """The number of orders, 0 with a ring; ways as known of the exchange."""
-    return 0 if ring(exchange) is not None else orders_behind(exchange, ways, ())
+    def free(self):
+        """The ascending list of the steps that may be done next."""
+        return free_steps(self.aheads, self.done_bits)
+
+    def ways_behind(self, number):
+        """In how many ways the others can be done when this step is done next."""
+        piece = self.pieces[number]
+        return self.ways * piece.many * piece.orders_without(number) // (self.many * piece.ways)
+
+    def do(self, number):
+        """Does this step next."""
+        self.ways = self.ways_behind(number)
+        self.pieces[number].leave(number)
+        self.many -= 1
+        self.done_bits |= 1 << number
 
 
 def count(exchange):
     """The number of orders."""
-    return all_orders(exchange, known_ways(exchange))
+    return Tally(exchange).ways
 
 
 def nth(exchange, k):
     """The order that has just k orders ahead of it."""
-    ways = known_ways(exchange)
-    if not is_integer(k) or not 0 <= k < all_orders(exchange, ways):
+    tally = Tally(exchange)
+    if not is_integer(k) or not 0 <= k < tally.ways:
         raise NoOrder(k)
-    plan = Plan(exchange)
     left = k
-    while not plan.is_whole:
-        for number in ready(plan):
-            longer = plan + number
-            many = orders_behind(exchange, ways, longer.numbers)
+    row = []
+    while len(row) < len(exchange):
+        for number in tally.free():
+            many = tally.ways_behind(number)
             if left < many:
                 break
             left -= many
-        plan = longer
-    return plan
+        tally.do(number)
+        row.append(number)
+    return Plan(exchange, row)
+
+
+def check_order(plan, aheads):
+    """Refuses a plan that is no order."""
+    done = 0
+    for at, number in enumerate(plan.numbers):
+        if aheads[number] & done != aheads[number]:
+            raise BadPlan(at)
+        done |= 1 << number
+    if not plan.is_whole:
+        raise BadPlan(len(plan))
 
 
 def rank(plan):
     """The number of orders ahead of this one."""
-    exchange = plan.exchange
-    ways = known_ways(exchange)
-    found = broken(plan)
-    if found is not None:
-        raise BadPlan(found[0] - 1)
-    if not plan.is_whole:
-        raise BadPlan(len(plan))
+    tally = Tally(plan.exchange)
+    check_order(plan, tally.aheads)
     total = 0
-    for at, number in enumerate(plan.numbers):
-        head = plan.head(at)
-        for other in ready(head):
+    for number in plan.numbers:
+        for other in tally.free():
             if other < number:
-                total += orders_behind(exchange, ways, (*head.numbers, other))
+                total += tally.ways_behind(other)
+        tally.do(number)
     return total

@@ -1,6 +1,6 @@
 """Room: how many rows a table has at most while it is changed."""
 
-from nearestsays.counting import MOST_STANDINGS, strict_bits
+from nearestsays.counting import MOST_STANDINGS
 from nearestsays.errors import Divided, TooMany
 from nearestsays.orders import ahead_bits, bits_of, check_ringless, free_steps
 from nearestsays.standings import is_standing, is_strict
@@ -43,14 +43,18 @@ def strict_heights(exchange):
     check_undivided(exchange)
     check_ringless(exchange)
     aheads = ahead_bits(exchange)
-    standings = strict_bits(aheads, MOST_STANDINGS)
-    if standings is None:
-        raise TooMany(MOST_STANDINGS)
     growth = growths(exchange)
     heights = {0: len(exchange.first_copy())}
-    for done in standings:
-        for number in free_steps(aheads, done):
-            heights[done | 1 << number] = heights[done] + growth[number]
+    level = [0]
+    while level:
+        following = {}
+        for done in level:
+            for number in free_steps(aheads, done):
+                following[done | 1 << number] = heights[done] + growth[number]
+            if len(heights) + len(following) > MOST_STANDINGS:
+                raise TooMany(MOST_STANDINGS)
+        heights.update(following)
+        level = list(following)
     return heights
 
 

@@ -10,7 +10,7 @@ from nearestsays.places import Place
 from nearestsays.plans import Plan
 from nearestsays.rings import ring
 from small import few_steps, forty_with_a_ring, keeps, nested, orders_of, ringed, some_exchanges, some_plans, wide
-from test_exchange import of_kinds, plain
+from test_exchange import of_kinds, plain, two
 from test_plans import ALIKE, chain
 
 NO_NUMBERS = [None, True, False, "0", "", [0], (0,), [], (), {}, {0: 0}, Place("a"), Place(), chain(), Plan(chain())]
@@ -200,6 +200,81 @@ class Circles(Case):
         self.same(count(taken(free(24))), factorial(24))
         exchange = taken(fork("/x", 11), fork("/y", 11))
         self.same([len(exchange), count(exchange)], [24, factorial(24) // 12 ** 2])
+
+
+class NearTheLimit(Case):
+    """Against a plain search: each strict standing, with the steps that may come and the ways on."""
+
+    def exchanges(self):
+        rows = {"/a": {"r": "x", "w": "x"}, "/a/b": {"r": "x"}, "/a/b/c": {"r": "x", "w": "x"}}
+        yield two({**rows, **{f"/f{number}": {"r": "x"} for number in range(8)}}, {}), 1024, 6652800
+        chains = {place: "r" for start, many in (("/x", 8), ("/y", 8), ("/z", 5)) for place in (start, *nested(many - 1, start))}
+        yield taken(TRIANGLE, chains), 4 * 9 * 9 * 6, factorial(24) // factorial(3) // factorial(8) ** 2 // factorial(5)
+        leaves = {f"/a/x{number}": "r" for number in range(9)}
+        yield taken(TRIANGLE, leaves), 1 + 3 * 2 ** 9, None
+        yield wide("rw", {}, {**TRIANGLE, **leaves}), 1 + 3 * 2 ** 9, None
+        # Rows of all kinds in three columns, each connected to the others.
+        yield wide("rwz", {"/a": "rw", "/a/b": "rz", **{f"/a/b/c{number}": "r" for number in range(5)}, "/a/d": "w"},
+                   {"/a": "z", **{f"/a/b/e{number}": "r" for number in range(2)}, **{f"/a/d/f{number}": "w" for number in range(4)}, "/a/b/c1/g": "z"}), None, None
+        yield wide("rw", {**TRIANGLE, **fork("/a/b/c/x", 3), **fork("/a/b/y", 3), "/z": "rw", "/z/u": "r", "/z/u/v": "w"}, {"/z/u/v/w": "rw"}), None, None
+        yield wide("rwz", {"/a": "rwz", "/a/b": "rw"}, {place: "r" for place in nested(5, "/a/c")} | {"/a/b/d": "w", "/a/b": "z"}, ["/a"]), None, None
+
+    def searched(self, exchange):
+        """The ways on from each strict standing to the whole one, and the steps that may come there."""
+        ahead = [frozenset(s[0] for s in exchange.sentences if s[1] == number) for number in range(len(exchange))]
+        free, levels = {}, [{frozenset()}]
+        while levels[-1]:
+            for done in levels[-1]:
+                free[done] = [number for number in range(len(exchange)) if number not in done and ahead[number] <= done]
+            levels.append({done | {number} for done in levels[-1] for number in free[done]})
+        ways = {}
+        for done in reversed(free):
+            ways[done] = sum(ways[done | {number}] for number in free[done]) or int(len(done) == len(exchange))
+        return ways, free
+
+    def order(self, exchange, ways, free, k):
+        row = []
+        while len(row) < len(exchange):
+            for number in free[frozenset(row)]:
+                many = ways[frozenset((*row, number))]
+                if k < many:
+                    break
+                k -= many
+            row.append(number)
+        return tuple(row)
+
+    def test_against_a_plain_search(self):
+        random = Random(86)
+        for exchange, standings, wanted in self.exchanges():
+            ways, free = self.searched(exchange)
+            total = ways[frozenset()]
+            self.assertLessEqual(len(ways), 2000)
+            self.same([standings or len(ways), wanted or total], [len(ways), total])
+            self.same(count(exchange), total)
+            for k in [0, 1, 1000, total - 1, *(random.randrange(total) for _ in range(12))]:
+                if k < total:
+                    order = self.order(exchange, ways, free, k)
+                    self.same(nth(exchange, k).numbers, order)
+                    self.same(rank(Plan(exchange, order)), k)
+            self.refused(NoOrder, {"k": total}, nth, exchange, total)
+
+    def test_many_random_ones_with_circles(self):
+        random = Random(87)
+        seen = 0
+        for columns, seed in (("rw", 88), ("rwz", 89)):
+            for exchange in few_steps(seed, 250, 12, columns, 12):
+                if ring(exchange) is not None:
+                    continue
+                ways, free = self.searched(exchange)
+                total = ways[frozenset()]
+                if len(ways) > 2000:
+                    continue
+                self.same(count(exchange), total)
+                k = random.randrange(total)
+                order = self.order(exchange, ways, free, k)
+                self.same([nth(exchange, k).numbers, rank(Plan(exchange, order))], [order, k])
+                seen += len(ways) > 60
+        self.assertGreater(seen, 40)
 
 
 class Refused(Case):
