@@ -8,7 +8,7 @@ from nearestsays.errors import TooMany
 from nearestsays.places import Place
 from nearestsays.rings import is_ring, ring
 from small import forty_with_a_ring, ringed, rings_of, some_exchanges, wide
-from test_exchange import of_kinds, plain
+from test_exchange import of_kinds, plain, two
 from test_plans import chain
 
 
@@ -134,6 +134,68 @@ class Fewest(Case):
     def test_forty_rows_with_a_ring(self):
         exchange = forty_with_a_ring()
         self.same(fewest_divided(exchange)[0], ("/p",))
+
+
+class ManyCandidates(Case):
+    """Against a plain search: each exchange is made anew, and its steps are done one after another."""
+
+    def can_be_done(self, exchange):
+        done = set()
+        for _ in range(len(exchange)):
+            done |= {n for n in range(len(exchange)) if all(s[0] in done for s in exchange.sentences if s[1] == n)}
+        return len(done) == len(exchange)
+
+    def check(self, exchange):
+        places, reasons = fewest_divided(exchange)
+        rows = tuples(candidates(exchange))
+        wanted = next(row for row in rows if self.can_be_done(exchange.divide(*row)))
+        self.same([places, [other for other, _ in reasons]], [wanted, rows[:rows.index(wanted)]])
+        for other, told in reasons:
+            self.assertIs(is_ring(exchange.divide(*other), told), True)
+        self.assertIs(shows_divided(exchange, places, reasons), True)
+        self.same(fewest_divided(exchange.back().back()), (places, reasons))
+        # One number more or less anywhere in a ring, or another column, shows nothing.
+        for at in range(0, len(reasons), 5):
+            other, told = reasons[at]
+            for sentence in range(len(told)):
+                for spot, value in ((0, told[sentence][0] + 1), (1, told[sentence][1] - 1), (2, "q"), (3, "new/turned"), (0, str(told[sentence][0]))):
+                    part = (*told[sentence][:spot], value, *told[sentence][spot + 1:])
+                    changed = (*told[:sentence], part, *told[sentence + 1:])
+                    wrong = [*reasons[:at], (other, changed), *reasons[at + 1:]]
+                    self.assertIs(shows_divided(exchange, places, wrong), is_ring(exchange.divide(*other), changed))
+        return len(places)
+
+    def three_rings(self, more=0):
+        first = {place: {"r": "x"} if len(place) == 3 else {"w": "x"} for k in range(3) for place in (f"/a{k}", f"/a{k}/b")}
+        second = {place: {"w": "y"} if len(place) == 3 else {"r": "y"} for place in first}
+        rows = {f"/d{number}": {"r": "x", "w": "x"} for number in range(10, 10 + more)}
+        return two({**first, **rows}, second)
+
+    def test_three_rings(self):
+        for more in (0, 34):
+            exchange = self.three_rings(more)
+            self.same([len(exchange), candidates(exchange)], [6 + more, ("/a0", "/a0/b", "/a1", "/a1/b", "/a2", "/a2/b")])
+            self.same(self.check(exchange), 3)
+
+    def test_five_and_six_candidates(self):
+        seen = [0, 0]
+        for columns, seed in (("rwz", 105), ("rw", 106)):
+            for exchange in some_exchanges(seed, 3000, columns, 14):
+                many = len(candidates(exchange))
+                if many in (5, 6) and seen[many - 5] < 8:
+                    self.check(exchange)
+                    seen[many - 5] += 1
+        self.assertGreater(min(seen), 3)
+
+    def test_a_ring_that_passes_a_divided_row_in_its_column(self):
+        # Divided alone, neither of the outer rows takes away the ring that passes the one between them in one column.
+        first = {"/p": "r", "/p/q": "rw", "/p/q/s": "rw"}
+        exchange = wide("rwz", first, {"/p": "wz", "/p/q": "z", "/p/q/s": "z"})
+        self.check(exchange)
+        for row in tuples(candidates(exchange)):
+            self.same(fewest_divided(exchange.divide(*row))[0] == (), self.can_be_done(exchange.divide(*row)))
+            if len(candidates(exchange.divide(*row))):
+                self.check(exchange.divide(*row))
 
 
 class Shown(Case):
