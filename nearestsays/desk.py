@@ -236,7 +236,7 @@ class Desk:
         try:
             return action(self, words)
         except TableError as e:
-            return f"refused {e.__class__.__name__}"
+            return "refused " + e.__class__.__name__
 
     def run(self, *lines):
         """Carries out the lines one after another and returns the list of the answers."""

@@ -1,91 +1,102 @@
 """Exchanges: the steps from one table to another one, and the sentences that order them."""
 
 from nearestsays.errors import NoStep, TooMany
-from nearestsays.places import Place, upward
+from nearestsays.places import text_of, upward
 from nearestsays.steps import part_step, whole_step
-from nearestsays.tables import Table, cells_at, check_like, spot_of
+from nearestsays.tables import Table, check_like, rows_of, spot_of, table_of
 
 UPPER_AHEAD = ("old/old", "new/old", "turned/old")
 LOWER_AHEAD = ("old/new", "new/new", "turned/new")
 
 
-def kind_of(before, after, column):
-    """The kind of a cell by the two rows at its place, or None if neither has it."""
-    if column not in before:
-        return "new" if column in after else None
-    if column not in after:
-        return "old"
-    return "kept" if before[column] == after[column] else "turned"
-
-
-def kinds_of(first, second, places):
-    """The kinds of all cells by (place, column), ascending."""
-    kinds = {}
-    for place in places:
-        before = cells_at(first, place)
-        after = cells_at(second, place)
-        for column in first.columns:
-            kind = kind_of(before, after, column)
-            if kind is not None:
-                kinds[(place, column)] = kind
-    return kinds
-
-
-def changed_columns(first, second, place):
-    """The ascending list of the columns in which the rows at the place differ."""
-    before = cells_at(first, place)
-    after = cells_at(second, place)
-    return [column for column in first.columns if before.get(column) != after.get(column)]
-
-
 def divided_places(first, second, divided):
-    """The ascending tuple of the texts of the places that are divided."""
-    texts = [Place.of(value).text for value in divided]
+    """The ascending tuple of the texts of the places that are divided; first and second are the rows."""
+    texts = [text_of(value) for value in divided]
     for text in texts:
-        if not changed_columns(first, second, text):
+        if first.get(text) == second.get(text):
             raise NoStep(text)
     return tuple(sorted(set(texts)))
 
 
+def kinds_at(columns, before, after):
+    """The kinds of the cells at a place by their columns, in the order of these."""
+    kinds = {}
+    for column in columns:
+        old, new = before.get(column), after.get(column)
+        if old is None:
+            if new is not None:
+                kinds[column] = "new"
+        elif new is None:
+            kinds[column] = "old"
+        else:
+            kinds[column] = "kept" if old == new else "turned"
+    return kinds
+
+
 def cell_only(cells, column):
     """The cells without those of the other columns."""
-    return {name: cells[name] for name in cells if name == column}
+    return {column: cells[column]} if column in cells else {}
 
 
-def steps_at(first, second, place, is_divided):
-    """The list of the steps at a place."""
-    before = cells_at(first, place)
-    after = cells_at(second, place)
-    columns = changed_columns(first, second, place)
-    if not columns:
-        return []
+def steps_at(place, columns, before, after, is_divided):
+    """The list of the steps at a place whose rows differ in these columns."""
     if not is_divided:
-        return [whole_step(place, tuple(columns), before, after)]
+        return [whole_step(place, columns, before, after)]
     return [
         part_step(place, column, cell_only(before, column), cell_only(after, column))
         for column in columns
     ]
 
 
-def cell_above(kinds, place, column):
-    """The nearest place strictly above with a cell in the column, or None."""
-    for spot in upward(place)[1:]:
-        if (spot, column) in kinds:
-            return spot
+def numbers_by_place(steps):
+    """By each place with steps a dict from the columns to the number of the step that changes the cell."""
+    found = {}
+    for number, step in enumerate(steps):
+        numbers = {column: number for column in step.columns}
+        found[step.place] = {**found[step.place], **numbers} if step.place in found else numbers
+    return found
+
+
+def cell_above(kinds, above, column):
+    """The nearest of these places, told with the farthest first, that has a cell in the column, or None."""
+    for place in above[::-1]:
+        if column in kinds[place]:
+            return place
     return None
 
 
-def sentence_of(kinds, numbers, place, column):
-    """The sentence about a cell and the cell above it, or None."""
-    upper = cell_above(kinds, place, column)
-    if upper is None:
-        return None
-    word = f"{kinds[(upper, column)]}/{kinds[(place, column)]}"
-    if word in UPPER_AHEAD:
-        return (numbers[(upper, column)], numbers[(place, column)], column, word)
-    if word in LOWER_AHEAD:
-        return (numbers[(place, column)], numbers[(upper, column)], column, word)
-    return None
+def sentences_at(kinds, numbers, above, place):
+    """The sentences whose lower cell is at the place; above are the places above it, the farthest first."""
+    found = []
+    for column, kind in kinds[place].items():
+        # Of what is turned or kept no sentence tells as the lower cell.
+        upper = cell_above(kinds, above, column) if kind in ("old", "new") else None
+        if upper is not None:
+            word = f"{kinds[upper][column]}/{kind}"
+            if word in UPPER_AHEAD:
+                found.append((numbers[upper][column], numbers[place][column], column, word))
+            if word in LOWER_AHEAD:
+                found.append((numbers[place][column], numbers[upper][column], column, word))
+    return found
+
+
+def is_above(place, other):
+    """Whether the first one of two unlike places is above the other one, by their texts."""
+    return place == "/" or other.startswith(f"{place}/")
+
+
+def sentences_of(kinds, numbers):
+    """The list of all sentences; kinds has the places of both tables, ascending."""
+    found = []
+    # A place comes ahead of all below it: so the places above one are among the
+    # place ahead of it and those above that one.
+    above = []
+    for place in kinds:
+        while above and not is_above(above[-1], place):
+            above.pop()
+        found.extend(sentences_at(kinds, numbers, above, place))
+        above.append(place)
+    return found
 
 
 class Exchange:
@@ -93,27 +104,27 @@ class Exchange:
 
     def __init__(self, first, second, *, divided=()):
         check_like(first, second)
-        places = tuple(sorted(set(first.places + second.places)))
+        rows, others = rows_of(first), rows_of(second)
+        places = tuple(sorted({**rows, **others}))
         if len(places) > Table.MOST:
             raise TooMany(Table.MOST)
         self.columns = first.columns
-        self.divided = divided_places(first, second, divided)
+        self.divided = divided_places(rows, others, divided)
         self._places = places
-        self._first = first.copy()
-        self._second = second.copy()
-        self._kinds = kinds_of(first, second, places)
-        self.steps = tuple([
-            step
-            for place in places
-            for step in steps_at(first, second, place, place in self.divided)
-        ])
-        self._numbers = {
-            (step.place, column): number
-            for number, step in enumerate(self.steps)
-            for column in step.columns
-        }
-        found = [sentence_of(self._kinds, self._numbers, place, column) for place, column in self._kinds]
-        self.sentences = tuple([sentence for sentence in found if sentence is not None])
+        self._first = rows
+        self._second = others
+        self._kinds = {}
+        steps = []
+        for place in places:
+            before, after = rows.get(place, {}), others.get(place, {})
+            kinds = kinds_at(self.columns, before, after)
+            changed = tuple([column for column in kinds if kinds[column] != "kept"])
+            if changed:
+                steps.extend(steps_at(place, changed, before, after, place in self.divided))
+            self._kinds[place] = kinds
+        self.steps = tuple(steps)
+        self._numbers = numbers_by_place(steps)
+        self.sentences = tuple(sentences_of(self._kinds, self._numbers))
 
     # A property, because `places` is one of a table, too.
     @property
@@ -123,39 +134,45 @@ class Exchange:
 
     def first_copy(self):
         """A new copy of the first table."""
-        return self._first.copy()
+        return table_of(self.columns, self._first)
 
     def second_copy(self):
         """A new copy of the second table."""
-        return self._second.copy()
+        return table_of(self.columns, self._second)
 
     def __len__(self):
         return len(self.steps)
 
     def kind(self, place, column):
         """The kind of the cell, or None if neither table has it."""
-        return self._kinds.get(spot_of(self.columns, place, column))
+        text, _ = spot_of(self.columns, place, column)
+        return self._kinds[text].get(column) if text in self._kinds else None
 
     def above(self, place, column):
         """The nearest place strictly above with a cell of either table, or None."""
         text, _ = spot_of(self.columns, place, column)
-        return cell_above(self._kinds, text, column)
+        for spot in upward(text)[1:]:
+            if spot in self._kinds and column in self._kinds[spot]:
+                return spot
+        return None
 
     def number_of(self, place, column):
         """The number of the step that changes the cell, or None."""
-        return self._numbers.get(spot_of(self.columns, place, column))
+        text, _ = spot_of(self.columns, place, column)
+        return self._numbers[text].get(column) if text in self._numbers else None
 
     def back(self):
         """The exchange from the second table to the first."""
-        return Exchange(self._second, self._first, divided=self.divided)
+        return Exchange(self.second_copy(), self.first_copy(), divided=self.divided)
 
     def divide(self, *places):
         """The exchange in which these places are divided, too."""
-        return Exchange(self._first, self._second, divided=self.divided + places)
+        return Exchange(self.first_copy(), self.second_copy(), divided=self.divided + places)
 
     def __eq__(self, other):
         return (
             isinstance(other, Exchange)
+            and self.columns == other.columns
             and self._first == other._first
             and self._second == other._second
             and self.divided == other.divided

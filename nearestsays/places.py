@@ -2,7 +2,6 @@
 
 from nearestsays.errors import BadName, BadPlace, TooMany
 
-SIGNS = "abcdefghijklmnopqrstuvwxyz0123456789"
 LONGEST_NAME = 8
 
 
@@ -15,7 +14,7 @@ def is_name(value):
     """Whether any value is a name."""
     if not isinstance(value, str) or not 0 < len(value) <= LONGEST_NAME:
         return False
-    return all([sign in SIGNS for sign in value])
+    return value.isascii() and value.isalnum() and value == value.lower()
 
 
 def is_place_text(value):
@@ -31,6 +30,15 @@ def is_place_text(value):
 def is_place(value):
     """Whether any value is a Place or the text of one."""
     return isinstance(value, Place) or is_place_text(value)
+
+
+def text_of(value):
+    """The text of the place that any value tells."""
+    if isinstance(value, Place):
+        return value.text
+    if not is_place_text(value):
+        raise BadPlace(value)
+    return value
 
 
 def upward(text):

@@ -1,7 +1,7 @@
 """Tables: rows of cells at places, and what each place is told."""
 
 from nearestsays.errors import BadCells, BadColumn, BadPlace, NoRow, TooMany, UnlikeColumns
-from nearestsays.places import Place, is_name, is_place, is_place_text, upward
+from nearestsays.places import is_name, is_place, is_place_text, text_of, upward
 
 
 def checked_columns(columns):
@@ -39,7 +39,7 @@ def merged(columns, held, rows):
 
 def spot_of(columns, place, column):
     """The pair of the text of a place and one of the columns."""
-    text = Place.of(place).text
+    text = text_of(place)
     if column not in columns:
         raise BadColumn(column)
     return (text, column)
@@ -51,9 +51,21 @@ def check_like(one, other):
         raise UnlikeColumns()
 
 
+def rows_of(table):
+    """The rows of a table by the texts of their places, as it keeps them: they are only read."""
+    return table._rows
+
+
+def table_of(columns, rows):
+    """A table that keeps these rows, which are such of a table with these columns."""
+    table = Table(columns)
+    table._rows = rows
+    return table
+
+
 def cells_at(table, place):
-    """The cells of the row at a place, {} if there is no row."""
-    return table[place] if place in table else {}
+    """The cells of the row at the text of a place, {} if there is no row; they are only read."""
+    return table._rows.get(place, {})
 
 
 class Table:
@@ -63,10 +75,11 @@ class Table:
     WIDEST = 3
 
     # The dict of the rows and the dicts of their cells are never changed, only
-    # replaced: so a copy, a block and a generator may keep the dict that stands.
+    # replaced: so a copy, a block, a generator and an exchange may keep the dict
+    # that stands.
     def __init__(self, columns, rows=None):
         self.columns = checked_columns(columns)
-        self._rows = merged(self.columns, {}, {} if rows is None else rows)
+        self._rows = {} if rows is None else merged(self.columns, {}, rows)
 
     @classmethod
     def plain(cls, column, answers):
@@ -81,13 +94,13 @@ class Table:
         return tuple(sorted(self._rows))
 
     def __getitem__(self, at):
-        text = Place.of(at).text
+        text = text_of(at)
         if text not in self._rows:
             raise NoRow(text)
         return dict(self._rows[text])
 
     def __setitem__(self, at, worth):
-        text = Place.of(at).text
+        text = text_of(at)
         self._rows = merged(self.columns, self._rows, {text: worth})
 
     def __iter__(self):
@@ -100,12 +113,12 @@ class Table:
     def take(self, place):
         """Takes the row out and returns its cells."""
         cells = self[place]
-        text = Place.of(place).text
+        text = text_of(place)
         self._rows = {spot: self._rows[spot] for spot in self._rows if spot != text}
         return cells
 
     def __contains__(self, x):
-        return is_place(x) and Place.of(x).text in self._rows
+        return is_place(x) and text_of(x) in self._rows
 
     def __len__(self):
         return len(self._rows)
@@ -115,7 +128,7 @@ class Table:
 
     def told(self, place, *columns):
         """What the place is told in these columns, in all of them if none is passed."""
-        text = Place.of(place).text
+        text = text_of(place)
         for column in columns:
             if column not in self.columns:
                 raise BadColumn(column)
@@ -154,16 +167,11 @@ class Table:
         return self
 
     def __or__(self, other):
-        return self._twin(merged(self.columns, self._rows, other))
+        return table_of(self.columns, merged(self.columns, self._rows, other))
 
     def copy(self):
         """A table of its own that is equal."""
-        return self._twin(self._rows)
-
-    def _twin(self, rows):
-        twin = Table(self.columns)
-        twin._rows = rows
-        return twin
+        return table_of(self.columns, self._rows)
 
     def __eq__(self, other):
         return isinstance(other, Table) and self.columns == other.columns and self._rows == other._rows
