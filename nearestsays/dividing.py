@@ -3,22 +3,9 @@
 from nearestsays.errors import TooMany
 from nearestsays.orders import bits_of
 from nearestsays.places import is_integer
-from nearestsays.rings import steps_behind
+from nearestsays.rings import goes_round, reached_from, steps_behind
 
 MOST_CANDIDATES = 6
-
-
-def reached_from(behinds, number):
-    """The steps to which sentences lead from this one, one sentence at least, as the keys of a dict."""
-    found = {other: True for other in behinds[number]}
-    row = list(found)
-    while row:
-        step = row.pop()
-        for other in behinds[step]:
-            if other not in found:
-                found[other] = True
-                row.append(other)
-    return found
 
 
 def way_back(pairs):
@@ -173,11 +160,7 @@ def is_ring_behind(net, division, thing):
     if not isinstance(thing, tuple) or not 2 <= len(thing) <= len(net.sentences):
         return False
     steps = net.steps_behind_it(division)
-    if not all([is_told_sentence(net, steps, part) for part in thing]):
-        return False
-    aheads = [part[0] for part in thing]
-    behinds = [part[1] for part in thing]
-    return behinds == aheads[1:] + aheads[:1] and len(set(aheads)) == len(aheads)
+    return all([is_told_sentence(net, steps, part) for part in thing]) and goes_round(thing)
 
 
 # Below, == and `in` ask for the kinds, too: a tuple equals no list, a text no Place.

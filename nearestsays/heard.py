@@ -3,7 +3,7 @@
 from nearestsays.errors import BadHearings, Contradiction
 from nearestsays.orders import check_ringless
 from nearestsays.places import Place, is_integer, is_name, is_place
-from nearestsays.rings import steps_ahead, steps_behind
+from nearestsays.rings import reached_from, steps_ahead, steps_behind
 from nearestsays.rounds import is_chain
 
 
@@ -77,13 +77,11 @@ def spots_told(facts):
     """By each step the first (moment, index) at which it is told to be done, and the last one at which it is not."""
     done, left = {}, {}
     for moment, row in enumerate(facts):
-        for index, fact in enumerate(row):
-            if fact is not None and fact[0] is not None:
-                number, is_done = fact
-                if is_done:
-                    done.setdefault(number, (moment, index))
-                else:
-                    left[number] = (moment, index)
+        for index, (number, is_done) in enumerate(row):
+            if number is not None and is_done:
+                done.setdefault(number, (moment, index))
+            elif number is not None:
+                left[number] = (moment, index)
     return (done, left)
 
 
@@ -132,13 +130,8 @@ def shows_contradiction(exchange, rows, thing):
 def closed_by(nexts, numbers):
     """The ascending tuple of these steps and all to which the lists of next ones lead."""
     found = {number: True for number in numbers}
-    row = list(found)
-    while row:
-        number = row.pop()
-        for other in nexts[number]:
-            if other not in found:
-                found[other] = True
-                row.append(other)
+    for number in numbers:
+        found.update(reached_from(nexts, number))
     return tuple(sorted(found))
 
 

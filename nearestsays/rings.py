@@ -19,6 +19,19 @@ def steps_behind(exchange):
     return found
 
 
+def reached_from(nexts, number):
+    """The steps to which the lists of the next ones lead from this one, over one at least, as the keys of a dict."""
+    found = {other: True for other in nexts[number]}
+    row = list(found)
+    while row:
+        step = row.pop()
+        for other in nexts[step]:
+            if other not in found:
+                found[other] = True
+                row.append(other)
+    return found
+
+
 def stuck_steps(exchange):
     """The numbers of the steps that no order reaches: those in a ring, or behind one."""
     aheads = steps_ahead(exchange)
@@ -58,12 +71,15 @@ def is_sentence(exchange, thing):
     return is_integer(thing[0]) and is_integer(thing[1]) and thing in exchange.sentences
 
 
+def goes_round(sentences):
+    """Whether each one leads to the step of the next one, the last one to that of the first, and to none twice."""
+    aheads = [sentence[0] for sentence in sentences]
+    behinds = [sentence[1] for sentence in sentences]
+    return behinds == aheads[1:] + aheads[:1] and len(set(aheads)) == len(aheads)
+
+
 def is_ring(exchange, thing):
     """Whether any value is a ring of the exchange."""
     if not isinstance(thing, tuple) or not 2 <= len(thing) <= len(exchange.sentences):
         return False
-    if not all([is_sentence(exchange, part) for part in thing]):
-        return False
-    aheads = [part[0] for part in thing]
-    behinds = [part[1] for part in thing]
-    return behinds == aheads[1:] + aheads[:1] and len(set(aheads)) == len(aheads)
+    return all([is_sentence(exchange, part) for part in thing]) and goes_round(thing)

@@ -191,7 +191,8 @@ class Circles(Case):
         exchange = wide("rwz", {**triple, **free(20)}, {"/p": "z", "/p/q/s": "z"})
         self.assertIsNotNone(ring(exchange))
         both = wide("rw", {**TRIANGLE, "/p": "r", "/p/q": "r", **free(19)}, {"/p": "w", "/p/q": "w"})
-        for ringed_too in (exchange, both):
+        first = wide("rw", {"/a": "r", "/a/b": "r", **free(20)}, {"/a": "w", "/a/b": "w"})
+        for ringed_too in (exchange, both, first):
             self.same(count(ringed_too), 0)
             self.refused(NoOrder, {"k": 0}, nth, ringed_too, 0)
             self.refused(BadPlan, {"at": 0}, rank, Plan(ringed_too))
@@ -213,6 +214,10 @@ class NearTheLimit(Case):
         leaves = {f"/a/x{number}": "r" for number in range(9)}
         yield taken(TRIANGLE, leaves), 1 + 3 * 2 ** 9, None
         yield wide("rw", {}, {**TRIANGLE, **leaves}), 1 + 3 * 2 ** 9, None
+        # Many steps to begin with, and one after another to end with.
+        yield wide("rw", {}, {**TRIANGLE, **{f"/a/b/c/x{number}": "r" for number in range(9)}}), 3 + 2 ** 9, None
+        yield wide("rw", {}, {**TRIANGLE, "/z": "r", "/z/a": "r", **{f"/a/b/c/x{number}": "r" for number in range(4)},
+                              **{f"/a/b/y{number}": "w" for number in range(3)}, "/a/b/c/x1/a": "r", "/a/b/c/x1/b": "r"}), None, None
         # Rows of all kinds in three columns, each connected to the others.
         yield wide("rwz", {"/a": "rw", "/a/b": "rz", **{f"/a/b/c{number}": "r" for number in range(5)}, "/a/d": "w"},
                    {"/a": "z", **{f"/a/b/e{number}": "r" for number in range(2)}, **{f"/a/d/f{number}": "w" for number in range(4)}, "/a/b/c1/g": "z"}), None, None

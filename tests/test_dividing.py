@@ -187,6 +187,12 @@ class ManyCandidates(Case):
                     seen[many - 5] += 1
         self.assertGreater(min(seen), 3)
 
+    def test_a_ring_that_passes_a_row_twice(self):
+        # Where /a/a alone is divided, there is a ring that passes it in two columns; it is none where it is whole.
+        exchange = wide("rwz", {"/a/a": "z", "/a/a/a": "z", "/a/a/a/a": "w"}, {"/a": "rwz", "/a/a": "rw", "/a/a/a": "w", "/a/a/a/a": "r"})
+        self.same(candidates(exchange), ("/a", "/a/a", "/a/a/a", "/a/a/a/a"))
+        self.check(exchange)
+
     def test_a_ring_that_passes_a_divided_row_in_its_column(self):
         # Divided alone, neither of the outer rows takes away the ring that passes the one between them in one column.
         first = {"/p": "r", "/p/q": "rw", "/p/q/s": "rw"}
@@ -223,6 +229,20 @@ class Shown(Case):
                         self.wrong(exchange, places, [*reasons[:at], (other, row), *reasons[at + 1:]])
             for row in [None, (), [], True, here[0][:1], here[0] + here[0], list(here[0]), tuple(map(list, here[0])), other]:
                 self.wrong(exchange, places, [*reasons[:at], (other, row), *reasons[at + 1:]])
+
+    def test_rings_turned_round_and_sentences_cut(self):
+        found = 0
+        for exchange in (triple(), triple("/a"), pairs("/a", "/b")):
+            places, reasons = fewest_divided(exchange)
+            for at, (other, _) in enumerate(reasons):
+                for row in rings_of(exchange.divide(*other)):
+                    turns = [row[::-1], row[1:] + row[:1], (row[1], row[0], *row[2:]), (*row, row[0]), tuple(part[:3] for part in row), tuple((*part, 0) for part in row),
+                             (row[0][:2], *row[1:]), ((), *row[1:]), (row[0] + row[0], *row[1:])]
+                    for turned in turns:
+                        changed = [*reasons[:at], (other, turned), *reasons[at + 1:]]
+                        self.assertIs(shows_divided(exchange, places, changed), is_ring(exchange.divide(*other), turned))
+                    found += len(row) > 2
+        self.assertGreater(found, 2)
 
     def test_reasons_left_out_put_in_twice_and_exchanged(self):
         for exchange in (pairs("/a", "/b"), triple(), ringed()):
