@@ -26,7 +26,13 @@ def numbers_of(bits):
 
 def first_bits(aheads, steps, rest):
     """The bits of those of the steps that none of the rest must come ahead of."""
-    return sum([1 << number for number in numbers_of(steps) if not aheads[number] & rest])
+    found = 0
+    while steps:
+        low = steps & -steps
+        if not aheads[low.bit_length() - 1] & rest:
+            found |= low
+        steps ^= low
+    return found
 
 
 def some_order(aheads):
@@ -199,8 +205,11 @@ class Tangle(Piece):
 
     def orders_of(self, rest, many):
         """How many orders so many steps of the piece have."""
-        aheads, behinds = self.links.aheads, self.links.behinds
-        return self.counted(rest, many, first_bits(aheads, rest, rest), first_bits(behinds, rest, rest), False)
+        if rest not in self.known:
+            aheads, behinds = self.links.aheads, self.links.behinds
+            firsts, lasts = first_bits(aheads, rest, rest), first_bits(behinds, rest, rest)
+            self.known[rest] = self.counted(rest, many, firsts, lasts, False)
+        return self.known[rest]
 
     def counted(self, rest, many, firsts, lasts, is_one):
         """The same, by the bits of those that may come first and last; is_one tells that all are surely connected."""
