@@ -1,10 +1,10 @@
 """Live tables: a table that is asked at any time while an exchange changes it step by step."""
 
-from nearestsays.errors import BadRule, NoExchange, NoStep, Ringed, ThirdAnswer, TooEarly, Underway
+from nearestsays.errors import BadRule, NoExchange, NoStep, ThirdAnswer, TooEarly, Underway
 from nearestsays.exchange import Exchange
 from nearestsays.orders import least_order
 from nearestsays.plans import Plan, is_number
-from nearestsays.rings import ring, steps_ahead
+from nearestsays.rings import steps_ahead
 from nearestsays.standings import third_at
 
 RULES = ("right", "strict")
@@ -37,14 +37,6 @@ def first_broken(exchange, done):
     """The two steps of the first sentence whose later step is done and whose earlier one is not."""
     pairs = [sentence[:2] for sentence in exchange.sentences]
     return [pair for pair in pairs if pair[1] in done and pair[0] not in done][0]
-
-
-def ring_left(left, numbers):
-    """A ring of what is left, told with the numbers of the exchange under way, or None."""
-    found = ring(left)
-    if found is None:
-        return None
-    return tuple([(numbers[ahead], numbers[behind], column, word) for ahead, behind, column, word in found])
 
 
 class Live:
@@ -166,13 +158,11 @@ class Live:
         """Does the steps that are left, in their least order, and returns their numbers."""
         exchange = self._under_way()
         plan = Plan(exchange, self.done)
-        left = plan.left()
-        # The steps that are left keep their order, so the numbers only move up.
+        # What is left is an exchange of its own, and a ring of it is told with
+        # its numbers; only the steps that are done are told with those of the
+        # exchange under way. They keep their order, so the numbers only move up.
+        order = least_order(plan.left())
         numbers = [number for number in range(len(exchange)) if number not in self.done]
-        found = ring_left(left, numbers)
-        if found is not None:
-            raise Ringed(found)
-        order = least_order(left)
         row = tuple([numbers[number] for number in order.numbers])
         for number in row:
             self._do(number)

@@ -40,6 +40,13 @@ def state(live):
     return [live.table_copy(), live.exchange, live.done, live.rule, live.log]
 
 
+def late_ring():
+    """Three steps; the ring of the last two can be told wrongly when the first one is done."""
+    first = {"/a": {"r": "0", "w": "z"}, "/a/a0": {"w": "0"}, "/a/a0/b": {"r": "y"}}
+    second = {"/": {"r": "x"}, "/a": {"r": "0", "w": "z"}, "/a/a0": {"r": "z"}, "/a/a0/b": {"w": "y"}}
+    return two(first, second)
+
+
 class Oops(Exception):
     """An error of a deed."""
 
@@ -329,8 +336,7 @@ class Finish(Case):
                     except Ringed:
                         with self.assertRaises(Ringed) as caught:
                             live.finish()
-                        told = tuple((numbers.index(a), numbers.index(b), column, word) for a, b, column, word in caught.exception.ring)
-                        self.assertIs(is_ring(left, told), True)
+                        self.assertIs(is_ring(left, caught.exception.ring), True)
                         self.assertEqual(state(live), before)
                         ringed_too += 1
                     else:
@@ -352,17 +358,43 @@ class Finish(Case):
                 self.same(live.tried(lambda going: sorted((*going.done, *going.finish()))), list(range(len(exchange))))
                 live.step(may_come(exchange, tuple(sorted(live.done)))[-1])
 
-    def test_a_ring_in_the_numbers_of_the_exchange_under_way(self):
-        rows = {"/a": {"r": "1"}, "/p": {"r": "1"}, "/p/q": {"r": "2"}}
-        exchange = two(rows, {"/p": {"w": "3"}, "/p/q": {"w": "4"}})
-        live = begun(exchange)
-        live.step(0)
+    def ringed_finish(self, live):
+        """The ring with which finish is refused: one of what is left, with its numbers. Nothing changes."""
         before = state(live)
         with self.assertRaises(Ringed) as caught:
             live.finish()
-        self.assertIs(is_ring(exchange, caught.exception.ring), True)
-        self.same(sorted(sentence[0] for sentence in caught.exception.ring), [1, 2])
+        self.assertIs(is_ring(Plan(live.exchange, live.done).left(), caught.exception.ring), True)
         self.assertEqual(state(live), before)
+        return caught.exception.ring
+
+    def test_a_ring_with_the_numbers_of_what_is_left(self):
+        for rule in ("right", "strict"):
+            live = begun(late_ring(), rule)
+            live.step(0)
+            self.same(sorted(self.ringed_finish(live)), [(0, 1, "r", "new/old"), (1, 0, "w", "old/new")])
+
+    def test_a_ring_ahead_of_all_steps_in_the_middle_and_gone_back(self):
+        rows = {"/a": {"r": "1"}, "/p": {"r": "1"}, "/p/q": {"r": "2"}, "/z": {"r": "1"}}
+        live = begun(two(rows, {"/p": {"w": "3"}, "/p/q": {"w": "4"}}))
+        crossed = [(0, 1, "r", "old/old"), (1, 0, "w", "new/new")]
+        moved = [(1, 2, "r", "old/old"), (2, 1, "w", "new/new")]
+        self.same(sorted(self.ringed_finish(live)), moved)
+        live.step(3)
+        self.same(sorted(self.ringed_finish(live)), moved)
+        live.step(0)
+        self.same(sorted(self.ringed_finish(live)), crossed)
+        live.back()
+        self.same(sorted(self.ringed_finish(live)), moved)
+
+    def test_a_ring_beside_divided_places(self):
+        first = {"/a": {"r": "1", "w": "1"}, "/p": {"r": "1"}, "/p/q": {"r": "2"}}
+        exchange = two(first, {"/a": {"r": "2", "w": "2"}, "/p": {"w": "3"}, "/p/q": {"w": "4"}}, ["/a"])
+        live = begun(exchange)
+        for number, divided, left in ((None, ("/a",), 4), (1, ("/a",), 3), (0, (), 2)):
+            if number is not None:
+                live.step(number)
+            self.same(sorted(s[:2] for s in self.ringed_finish(live)), [(left - 2, left - 1), (left - 1, left - 2)])
+            self.same(Plan(exchange, live.done).left().divided, divided)
 
     def test_divided(self):
         live = Live(ringed().first_copy())
@@ -498,12 +530,49 @@ class Exchanged(Case):
         with self.assertRaises(Ringed):
             live.exchanged(ringed().second_copy(), lambda going: going.told("/p"))
         self.assertEqual(state(live), before)
+        # With a step done the ring is one of what is left then.
+        for rule in ("right", "strict"):
+            for deed in (lambda going: going.step(0), lambda going: (going.step(0), going.back(), going.step(0))):
+                live = live_of(late_ring(), rule)
+                before = state(live)
+                with self.assertRaises(Ringed) as caught:
+                    live.exchanged(late_ring().second_copy(), deed)
+                self.same(sorted(caught.exception.ring), [(0, 1, "r", "new/old"), (1, 0, "w", "old/new")])
+                self.assertEqual(state(live), before)
         # The deed goes into the trap; what is left then forms a ring.
         live = live_of(trap())
         before = state(live)
         with self.assertRaises(TableError):
             live.exchanged(trap().second_copy(), lambda going: going.step(0))
         self.assertEqual(state(live), before)
+
+    def test_a_ring_of_an_exchange_that_deed_began_or_turned_to(self):
+        def turn(going):
+            going.step(1)
+            going.turn_to(late_ring().second_copy())
+            going.step(0)
+
+        def again(going):
+            going.finish()
+            going.begin(late_ring().first_copy())
+            going.finish()
+            going.begin(late_ring().second_copy())
+            going.step(0)
+
+        more = late_ring().first_copy() | {"/b": {"r": "x"}, "/c": {"r": "x"}}
+        for deed in (turn, again):
+            live = live_of(late_ring())
+            before = state(live)
+            with self.assertRaises(Ringed) as caught:
+                live.exchanged(more, deed)
+            self.assertEqual(state(live), before)
+            # What is left is found once more on a live table of its own.
+            other = live_of(late_ring())
+            other.begin(more)
+            deed(other)
+            left = Plan(other.exchange, other.done).left()
+            self.assertIs(is_ring(left, caught.exception.ring), True)
+            self.assertIs(is_ring(other.exchange, caught.exception.ring), False)
 
     def test_within_one_another(self):
         live = live_of(alike())
