@@ -122,18 +122,38 @@ class Standings:
         # Without a step that is near to many others the rest falls apart soonest.
         pairs = sorted([(-len(numbers_of(self.near[number])), number) for number in order])
         self.pivots = [number for _, number in pairs]
+        self.known = {}
 
-    def within(self, rest):
-        """How many strict standings these steps alone have."""
-        total = 1
-        for part, many in parts_of(self.near, rest):
-            if many == 1:
-                total = total * 2
-            else:
-                pivot = [number for number in self.pivots if part >> number & 1][0]
-                without = self.within(part & ~self.with_behind[pivot])
-                total = total * (without + self.within(part & ~self.with_ahead[pivot]))
+    def within(self, rest, most):
+        """How many strict standings these steps alone have; any number above most, if there are more than most."""
+        parts = parts_of(self.near, rest)
+        total = 1 << len([part for part, many in parts if many == 1])
+        for part, many in parts:
+            # Once there are more than most it makes no difference how many more.
+            if many > 1 and total <= most:
+                total = total * self.of_part(part, most // total)
         return total
+
+    def of_part(self, part, most):
+        """The same of connected steps: without one of them and those behind it, or with it and those ahead of it."""
+        if part not in self.known:
+            pivot = [number for number in self.pivots if part >> number & 1][0]
+            ways = self.within(part & ~self.with_behind[pivot], most)
+            if ways <= most:
+                ways += self.within(part & ~self.with_ahead[pivot], most - ways)
+            # If these are more than most, then so are all, and no more is asked.
+            self.known[part] = ways
+        return self.known[part]
+
+
+def has_too_many(links, order):
+    """Whether all steps together have more than 2,000 strict standings; the order has each of them."""
+    # Each set of those that need nothing ahead is one; all but a set of those for which nothing waits are one, too.
+    free = max(links.aheads.count(0), links.behinds.count(0))
+    if 1 << free > MOST_STANDINGS:
+        return True
+    whole = (1 << len(order)) - 1
+    return Standings(links, order).within(whole, MOST_STANDINGS) > MOST_STANDINGS
 
 
 def woven(row, other, is_ahead):
@@ -253,7 +273,7 @@ def pieces_of(exchange, aheads, order):
     parts = parts_of(links.near, whole)
     if not has_circle(exchange, parts):
         return [Piece(links, part, many) for part, many in parts]
-    if Standings(links, order).within(whole) > MOST_STANDINGS:
+    if has_too_many(links, order):
         raise TooMany(MOST_STANDINGS)
     return [Tangle(links, part, many) for part, many in parts]
 

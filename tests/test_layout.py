@@ -59,7 +59,7 @@ MODULES = list(INTERFACE)
 UNSET = "places is_whole is_strict is_right total rows exchange done log names text up".split()
 
 # What is imported from outside of the package.
-LIBRARY = [("math", ["comb"])]
+LIBRARY = [("math", ["comb"]), ("heapq", ["heappop", "heappush"])]
 
 # What may change its own object though it is an operator.
 CHANGING = ("__setitem__", "__ior__", "__init__", "__enter__", "__exit__", "__call__")
